@@ -9,6 +9,7 @@ import (
 
 	"repartee/api"
 	"repartee/equal"
+	"repartee/sketch"
 )
 
 var classesOf = []struct{ what, nodes, want string }{
@@ -101,7 +102,7 @@ var classesOf = []struct{ what, nodes, want string }{
 
 func TestClassesByHand(t *testing.T) {
 	for _, c := range classesOf {
-		b, want := booked("", c.nodes), numbers(c.want)
+		b, want := sketch.Book("", c.nodes), sketch.Numbers(c.want)
 		if got := equal.Classes(b); !slices.Equal(got, want) {
 			t.Errorf("P10.1: %s: Classes of %s = %v, want %s", c.what, c.nodes, got, c.want)
 		}
@@ -121,10 +122,10 @@ func TestClassesByHand(t *testing.T) {
 func TestOrderOfNodes(t *testing.T) {
 	r := rand.New(rand.NewSource(1))
 	for _, c := range classesOf {
-		b := booked("", c.nodes)
+		b := sketch.Book("", c.nodes)
 		for range 10 {
 			order := r.Perm(len(b.Nodes))
-			s := swapped(b, order)
+			s := sketch.Reorder(b, order)
 			check(t, s)
 			for x := range b.Nodes {
 				for y := range b.Nodes {
@@ -142,14 +143,14 @@ func TestKindsOfWhatIsCarried(t *testing.T) {
 	for i := range 6 {
 		for j := range 6 {
 			for k := range 3 {
-				b := booked("", "b?x>2,y>2,z>2 b?x>2,y>2,z>2 .")
+				b := sketch.Book("", "b?x>2,y>2,z>2 b?x>2,y>2,z>2 .")
 				b.Nodes[0].Arms[k].Sort.Kind, b.Nodes[1].Arms[k].Sort.Kind = i, j
 				if equal.Same(b, 0, 1) != (i == j) {
 					t.Errorf("P10.1: Same of nodes whose label %d carries the Kinds %d and %d = %v", k, i, j, i != j)
 				}
 				check(t, b)
 			}
-			b := booked("", "b!x:0>0 b!x:0>1")
+			b := sketch.Book("", "b!x:0>0 b!x:0>1")
 			b.Nodes[0].Arms[0].Sort.Kind, b.Nodes[1].Arms[0].Sort.Kind = i, j
 			check(t, b)
 		}
@@ -162,7 +163,7 @@ func star(n int, nodes string) api.Book {
 	for i := range n {
 		l = append(l, "p"+strconv.Itoa(i)+"!x>"+strconv.Itoa(i))
 	}
-	return booked("", strings.Join(l, " ")+" "+nodes)
+	return sketch.Book("", strings.Join(l, " ")+" "+nodes)
 }
 
 // Nodes that lead to themselves alone are equal if they match locally, whatever their Peers, labels and Kinds read like together.
@@ -202,7 +203,7 @@ func TestNumbersThatJoinAlike(t *testing.T) {
 	// Nodes 1 and 11 have the classes 1 and 11, and lead on to 12 and 2.
 	for _, edges := range [][]string{{"x>12", "x>2"}, {"x:5.12>0", "x:5.2>0"}, {"x:5.12>1", "x:5.2>1"}} {
 		b := star(13, "")
-		b.Nodes[1].Arms, b.Nodes[11].Arms = edgesOf(edges[0]), edgesOf(edges[1])
+		b.Nodes[1].Arms, b.Nodes[11].Arms = sketch.Edges(edges[0]), sketch.Edges(edges[1])
 		check(t, b)
 	}
 }
@@ -214,7 +215,7 @@ func TestNodesThatLeadToTheSame(t *testing.T) {
 	for range 10 {
 		b := star(212, "")
 		for range 188 {
-			n := node("b!x>0,y>0")
+			n := sketch.Node("b!x>0,y>0")
 			n.Arms[0].Next, n.Arms[1].Next = some(), some()
 			if r.Intn(2) > 0 {
 				n.Arms[1].Sort = api.Sort{Kind: api.Chan, At: some()}
@@ -222,14 +223,14 @@ func TestNodesThatLeadToTheSame(t *testing.T) {
 			b.Nodes = append(b.Nodes, n)
 		}
 		checkWith(t, b, each(400, func(i int) int {
-			return slices.IndexFunc(b.Nodes, func(n api.Node) bool { return sameNodes([]api.Node{n}, b.Nodes[i:i+1]) })
+			return slices.IndexFunc(b.Nodes, func(n api.Node) bool { return sketch.SameNodes([]api.Node{n}, b.Nodes[i:i+1]) })
 		}))
 	}
 }
 
 func TestIndicesThatAreNone(t *testing.T) {
 	for _, nodes := range []string{"", ".", ". .", "b!x>1 b!x>0", "b!x:5.0>0"} {
-		b := booked("", nodes)
+		b := sketch.Book("", nodes)
 		n := len(b.Nodes)
 		for _, x := range []int{-1, n} {
 			for _, y := range []int{-1, n} {
@@ -247,39 +248,13 @@ func TestIndicesThatAreNone(t *testing.T) {
 	}
 }
 
-// invalid are books of which each hurts one condition of chapter 9.
-func invalid() []api.Book {
-	l := []api.Book{
-		booked("a=0 a=0", ". ."), booked("b=0 a=0", ". ."), booked("a=2", ". ."), booked("a=-1", ". ."), booked("a=0", ""),
-		{Nodes: make([]api.Node, 2), Names: []string{"a"}}, {Nodes: make([]api.Node, 2), Roots: []int{0}}, {Names: []string{"a"}}, {Roots: []int{0}},
-		{Nodes: make([]api.Node, 401)}, {Nodes: slices.Repeat([]api.Node{node("b!x>0")}, 401)},
-		{Nodes: []api.Node{{Kind: 3}, {Kind: 3}}}, {Nodes: []api.Node{{Kind: -1}}}, {Nodes: []api.Node{{Peer: "b"}}}, {Nodes: []api.Node{{Arms: edgesOf("x>0")}}},
-		{Nodes: []api.Node{{Kind: api.Send, Peer: "b"}}}, {Nodes: []api.Node{{Kind: api.Recv, Arms: edgesOf("x>0")}}},
-	}
-	for _, nodes := range []string{
-		"B!x>0", "end?x>0", "b!X>0", "b!end>0", "b!>0", "b!y>0,x>0", "b!x>0,x>0", "b!a>0,b>0,c>0,d>0,e>0,f>0,g>0", "abcdefghijklm!x>0", "b!abcdefghijklm>0",
-		"b!x>9", "b!x>-1", "b!x>0,y>9 .", "b!x:5.9>0", "b!x:5.-1>0", "b!x:1.1>0 .", "b!x:0.1>0 .", "b!x:6>0", "b!x:-1>0", ". . b!x>9", ". . b!x:4.-1>0",
-	} {
-		l = append(l, booked("", nodes))
-	}
-	return l
-}
-
 func TestInvalidBooks(t *testing.T) {
-	for _, b := range invalid() {
-		checkInvalid(t, b)
-		if len(b.Names) > 0 || len(b.Roots) > 0 {
-			continue
-		}
-		// With names that are valid, and ahead of nodes that are.
-		b.Names, b.Roots = []string{"a", "b"}, []int{0, 0}
-		checkInvalid(t, b)
-		b.Nodes = slices.Concat(b.Nodes, booked("", ". . b!x>0").Nodes)
+	for _, b := range sketch.Invalid() {
 		checkInvalid(t, b)
 	}
-	// An index just outside of a book is no node there either.
+	// An index just outside of a book is no node there; with one node more it is.
 	for _, nodes := range []string{"b!x>1", "b!x:5.1>0", ". b!x>2", ". b?x>0,y:5.2>1"} {
-		checkInvalid(t, booked("", nodes))
-		check(t, booked("", nodes+" ."))
+		checkInvalid(t, sketch.Book("", nodes))
+		check(t, sketch.Book("", nodes+" ."))
 	}
 }

@@ -7,28 +7,14 @@ import (
 
 	"repartee/api"
 	"repartee/equal"
+	"repartee/sketch"
 )
 
 // made is a book of n nodes, in which node i is what build says, with Names for its first, its middle and its last node.
 func made(n int, build func(i int) api.Node) api.Book {
-	b := api.Book{Names: []string{"a", "b", "c"}, Roots: []int{0, n / 2, n - 1}}
-	for i := range n {
-		b.Nodes = append(b.Nodes, build(i))
-	}
+	b := sketch.Made(n, build)
+	b.Names, b.Roots = []string{"a", "b", "c"}, []int{0, n / 2, n - 1}
 	return b
-}
-
-// to is a node that sends, with these labels, each with this Next, and with a Chan at this At if it is one.
-func to(next, at int, labels ...string) api.Node {
-	n := api.Node{Kind: api.Send, Peer: "b"}
-	for _, label := range labels {
-		e := api.Edge{Label: label, Next: next}
-		if at >= 0 {
-			e.Sort = api.Sort{Kind: api.Chan, At: at}
-		}
-		n.Arms = append(n.Arms, e)
-	}
-	return n
 }
 
 func first(int) int { return 0 }
@@ -38,11 +24,11 @@ var sixLabels = strings.Split("abcdef", "")
 func TestMaxNodesAllEqual(t *testing.T) {
 	for _, build := range []func(i int) api.Node{
 		func(int) api.Node { return api.Node{} },
-		func(i int) api.Node { return to(i, -1, "x") },
-		func(i int) api.Node { return to((i+1)%400, -1, "x") },
-		func(i int) api.Node { return to((i+399)%400, (i+1)%400, "x", "y") },
-		func(i int) api.Node { return to(i*i%400, i*7%400, sixLabels...) },
-		func(i int) api.Node { return to(max(i-1, 0), 399-i, "x") },
+		func(i int) api.Node { return sketch.To(i, -1, "x") },
+		func(i int) api.Node { return sketch.To((i+1)%400, -1, "x") },
+		func(i int) api.Node { return sketch.To((i+399)%400, (i+1)%400, "x", "y") },
+		func(i int) api.Node { return sketch.To(i*i%400, i*7%400, sixLabels...) },
+		func(i int) api.Node { return sketch.To(max(i-1, 0), 399-i, "x") },
 	} {
 		b := made(400, build)
 		checkWith(t, b, each(400, first))
@@ -63,21 +49,21 @@ func chain(build func(i int) api.Node, last api.Node) api.Book {
 	})
 }
 
-func next(i int) api.Node { return to(i+1, -1, "x") }
+func next(i int) api.Node { return sketch.To(i+1, -1, "x") }
 
 // The nodes differ from the last one by how many labels lead there, so one round of refining tells one more node apart.
 func TestMaxNodesToldApartOneByOne(t *testing.T) {
 	for _, build := range []func(i int) api.Node{
 		next,
-		func(i int) api.Node { return to(i+1, -1, sixLabels...) },
-		func(i int) api.Node { return to(i+1, i+1, sixLabels...) },
-		func(i int) api.Node { return to(0, i+1, "x") },
-		func(i int) api.Node { return to(i+1, i, "x") },
+		func(i int) api.Node { return sketch.To(i+1, -1, sixLabels...) },
+		func(i int) api.Node { return sketch.To(i+1, i+1, sixLabels...) },
+		func(i int) api.Node { return sketch.To(0, i+1, "x") },
+		func(i int) api.Node { return sketch.To(i+1, i, "x") },
 	} {
 		checkWith(t, chain(build, api.Node{}), each(400, itself))
 	}
 	for _, last := range []string{"b?x>0", "c!x>0", "b!y>0", "b!x>0,y>0", "b!x:1>0"} {
-		checkWith(t, chain(next, node(last)), each(400, itself))
+		checkWith(t, chain(next, sketch.Node(last)), each(400, itself))
 	}
 }
 
@@ -89,7 +75,7 @@ func TestMaxNodesToldApartInOtherOrders(t *testing.T) {
 		func(i int) int { return i * 77 % 400 },
 		func(i int) int { return (i + 200) % 400 },
 	} {
-		checkWith(t, swapped(b, each(400, order)), each(400, itself))
+		checkWith(t, sketch.Reorder(b, each(400, order)), each(400, itself))
 	}
 }
 
@@ -109,16 +95,16 @@ func TestMaxNodesInParts(t *testing.T) {
 	// A cycle that says y at every eighth node: the nodes eight apart are equal.
 	checkWith(t, made(400, func(i int) api.Node {
 		if i%8 == 5 {
-			return to((i+1)%400, -1, "y")
+			return sketch.To((i+1)%400, -1, "y")
 		}
-		return to((i+1)%400, -1, "x")
+		return sketch.To((i+1)%400, -1, "x")
 	}), each(400, func(i int) int { return i % 8 }))
 	// A cycle of which one node alone says y: no two nodes are equal.
 	checkWith(t, made(400, func(i int) api.Node {
 		if i == 123 {
-			return to(124, -1, "y")
+			return sketch.To(124, -1, "y")
 		}
-		return to((i+1)%400, -1, "x")
+		return sketch.To((i+1)%400, -1, "x")
 	}), each(400, itself))
 }
 
@@ -126,8 +112,8 @@ func TestMaxNodesInParts(t *testing.T) {
 func TestMoreThanMaxNodes(t *testing.T) {
 	for _, build := range []func(i int) api.Node{
 		func(int) api.Node { return api.Node{} },
-		func(i int) api.Node { return to(i, -1, "x") },
-		func(i int) api.Node { return to((i+1)%401, -1, "x") },
+		func(i int) api.Node { return sketch.To(i, -1, "x") },
+		func(i int) api.Node { return sketch.To((i+1)%401, -1, "x") },
 	} {
 		checkInvalid(t, made(401, build))
 		b := made(401, build)

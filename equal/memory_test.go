@@ -6,68 +6,43 @@ import (
 
 	"repartee/api"
 	"repartee/equal"
+	"repartee/sketch"
 )
 
 // someBooks are the valid books of the tables.
 func someBooks() []api.Book {
 	var l []api.Book
 	for _, c := range shrunk {
-		b := booked(c.roots, c.nodes)
+		b := sketch.Book(c.roots, c.nodes)
 		b.Names, b.Roots = inOrder(b)
 		l = append(l, b)
 	}
 	for _, c := range classesOf {
-		l = append(l, booked("", c.nodes))
+		l = append(l, sketch.Book("", c.nodes))
 	}
 	return l
 }
 
-// roomy is a copy of l with memory beyond its length, in which there is something that would count if it were read.
-func roomy[T any](l []T, beyond ...T) []T {
-	return append(slices.Clone(l), beyond...)[:len(l)]
-}
-
-// beyond is a copy of the next two in the memory beyond the length of a roomy list.
-func beyond[T any](l []T) []T { return slices.Clone(l[len(l) : len(l)+2]) }
-
-func roomyBook(b api.Book) api.Book {
-	b.Nodes = roomy(b.Nodes, api.Node{}, api.Node{Kind: 3})
-	b.Names, b.Roots = roomy(b.Names, "~", "beyond"), roomy(b.Roots, 0, -1)
-	for i := range b.Nodes {
-		b.Nodes[i].Arms = roomy(b.Nodes[i].Arms, edgesOf("zz>0,a>-1")...)
-	}
-	return b
-}
-
-// beyondBook is what stands beyond the lists of a roomy book.
-func beyondBook(b api.Book) api.Book {
-	out := api.Book{Nodes: beyond(b.Nodes), Names: beyond(b.Names), Roots: beyond(b.Roots)}
-	for _, n := range b.Nodes {
-		out.Nodes = append(out.Nodes, api.Node{Arms: beyond(n.Arms)})
-	}
-	return out
-}
-
 func TestNothingBeyondTheListsOfABookIsReadOrWritten(t *testing.T) {
 	for _, plain := range someBooks() {
-		b := roomyBook(plain)
-		before := beyondBook(b)
+		b := sketch.Roomy(plain)
+		before := sketch.Beyond(b)
 		checkWith(t, b, simpleClasses(plain))
-		if s := equal.Shrink(b); !sameBooks(s, equal.Shrink(plain)) {
+		if s := equal.Shrink(b); !sketch.Same(s, equal.Shrink(plain)) {
 			t.Errorf("P0.4: memory beyond the lists of %v was read: %v", plain, s)
 		}
-		if !sameBooks(beyondBook(b), before) {
+		if !sketch.Same(sketch.Beyond(b), before) {
 			t.Errorf("P0.4: memory beyond the lists of %v was written", plain)
 		}
 	}
-	for _, plain := range invalid() {
+	for _, plain := range sketch.Invalid() {
 		if len(plain.Nodes) > 400 {
 			continue
 		}
-		b := roomyBook(plain)
-		before := beyondBook(b)
+		b := sketch.Roomy(plain)
+		before := sketch.Beyond(b)
 		checkInvalid(t, b)
-		if !sameBooks(beyondBook(b), before) {
+		if !sketch.Same(sketch.Beyond(b), before) {
 			t.Errorf("P0.4: memory beyond the lists of %v was written", plain)
 		}
 	}
@@ -93,7 +68,7 @@ func spoil(b api.Book) {
 
 func TestResultsAreNewMemory(t *testing.T) {
 	for _, plain := range someBooks() {
-		for _, b := range []api.Book{copied(plain), roomyBook(plain)} {
+		for _, b := range []api.Book{sketch.Copy(plain), sketch.Roomy(plain)} {
 			want, wantClasses := simpleShrink(plain, simpleClasses(plain)), simpleClasses(plain)
 			s, other := equal.Shrink(b), equal.Shrink(b)
 			classes, otherClasses := equal.Classes(b), equal.Classes(b)
@@ -101,17 +76,17 @@ func TestResultsAreNewMemory(t *testing.T) {
 			for i := range classes[:cap(classes)] {
 				classes[:cap(classes)][i] = -7
 			}
-			if !sameBooks(b, plain) {
+			if !sketch.Same(b, plain) {
 				t.Errorf("P0.4: a result shares its memory with the book %v", plain)
 			}
-			if !sameBooks(other, want) || !slices.Equal(otherClasses, wantClasses) {
+			if !sketch.Same(other, want) || !slices.Equal(otherClasses, wantClasses) {
 				t.Errorf("P0.4: two results for the book %v share memory", plain)
 			}
-			if !sameBooks(equal.Shrink(b), want) || !slices.Equal(equal.Classes(b), wantClasses) {
+			if !sketch.Same(equal.Shrink(b), want) || !slices.Equal(equal.Classes(b), wantClasses) {
 				t.Errorf("P0.5: the results for the book %v are others when they were asked before", plain)
 			}
 			spoil(b)
-			if !sameBooks(other, want) {
+			if !sketch.Same(other, want) {
 				t.Errorf("P0.4: the shrunk book changes with the book %v", plain)
 			}
 		}
@@ -124,7 +99,7 @@ func TestShrunkBooksAreNewMemoryAgain(t *testing.T) {
 		one := equal.Shrink(plain)
 		two := equal.Shrink(one)
 		spoil(one)
-		if !sameBooks(two, simpleShrink(plain, simpleClasses(plain))) {
+		if !sketch.Same(two, simpleShrink(plain, simpleClasses(plain))) {
 			t.Errorf("P0.4: the Shrink of a shrunk book shares its memory: %v", plain)
 		}
 	}

@@ -8,50 +8,21 @@ import (
 	"repartee/api"
 	"repartee/book"
 	"repartee/equal"
+	"repartee/sketch"
 )
-
-// plainNodes are all nodes of a book of n nodes that end, or send or receive one label or two, with nothing or a Chan.
-func plainNodes(n int, labels ...string) []api.Node {
-	l := []api.Node{{}}
-	for _, kind := range []int{api.Send, api.Recv} {
-		for _, edges := range plainEdges(n, labels) {
-			l = append(l, api.Node{Kind: kind, Peer: "b", Arms: edges})
-		}
-	}
-	return l
-}
-
-func plainEdges(n int, labels []string) [][]api.Edge {
-	all := [][]api.Edge{nil}
-	for _, label := range labels {
-		var longer [][]api.Edge
-		for _, edges := range all {
-			longer = append(longer, edges)
-			for next := range n {
-				longer = append(longer, append(slices.Clone(edges), api.Edge{Label: label, Next: next}))
-				for at := range n {
-					sort := api.Sort{Kind: api.Chan, At: at}
-					longer = append(longer, append(slices.Clone(edges), api.Edge{Label: label, Sort: sort, Next: next}))
-				}
-			}
-		}
-		all = longer
-	}
-	return slices.DeleteFunc(all, func(edges []api.Edge) bool { return len(edges) == 0 })
-}
 
 // All books of up to three small nodes: two nodes have up to two labels, three nodes have one.
 func TestAllSmallBooks(t *testing.T) {
-	for _, x := range plainNodes(1, "x", "y") {
+	for _, x := range sketch.Plain(1, "x", "y") {
 		check(t, api.Book{Nodes: []api.Node{x}, Names: []string{"a"}, Roots: []int{0}})
 	}
-	two := plainNodes(2, "x", "y")
+	two := sketch.Plain(2, "x", "y")
 	for _, x := range two {
 		for _, y := range two {
 			checkSmall(t, x, y)
 		}
 	}
-	three := plainNodes(3, "x")
+	three := sketch.Plain(3, "x")
 	for _, x := range three {
 		for _, y := range three {
 			for _, z := range three {
@@ -74,7 +45,7 @@ func checkSmall(t *testing.T, nodes ...api.Node) {
 		}
 	}
 	s := equal.Shrink(b)
-	if !sameBooks(s, simpleShrink(b, want)) {
+	if !sketch.Same(s, simpleShrink(b, want)) {
 		t.Fatalf("P10.2: Shrink(%v) = %v", b, s)
 	}
 	checkShrunk(t, b, s)
@@ -189,7 +160,7 @@ func TestRandomCopies(t *testing.T) {
 func change(r *rand.Rand, b api.Book) {
 	x := &b.Nodes[r.Intn(len(b.Nodes))]
 	if x.Kind == api.End {
-		*x = node("b!x>0")
+		*x = sketch.Node("b!x>0")
 		return
 	}
 	e := &x.Arms[r.Intn(len(x.Arms))]
@@ -240,7 +211,7 @@ func TestBooksSideBySide(t *testing.T) {
 	for range 500 {
 		b := drawn(r, 1+r.Intn(6))
 		n := len(b.Nodes)
-		second := swapped(api.Book{Nodes: slices.Concat(b.Nodes, b.Nodes)}, each(2*n, func(i int) int { return (i + n) % (2 * n) }))
+		second := sketch.Reorder(api.Book{Nodes: slices.Concat(b.Nodes, b.Nodes)}, each(2*n, func(i int) int { return (i + n) % (2 * n) }))
 		two := api.Book{Nodes: slices.Concat(b.Nodes, second.Nodes[:n])}
 		if !book.May(two) {
 			t.Fatalf("%v is not valid", two)
@@ -248,7 +219,7 @@ func TestBooksSideBySide(t *testing.T) {
 		classes := equal.Classes(b)
 		checkWith(t, two, slices.Concat(classes, classes))
 		s := equal.Shrink(two)
-		if !sameNodes(s.Nodes, equal.Shrink(b).Nodes) {
+		if !sketch.SameNodes(s.Nodes, equal.Shrink(b).Nodes) {
 			t.Fatalf("P10.2: Shrink(%v) = %v", two, s)
 		}
 	}
@@ -271,7 +242,7 @@ func TestRandomLargeBooks(t *testing.T) {
 		})
 		checkWith(t, b, simpleClasses(b))
 		checkWith(t, s, want)
-		m := swapped(s, r.Perm(400))
+		m := sketch.Reorder(s, r.Perm(400))
 		if one, two := equal.Shrink(s), equal.Shrink(m); len(one.Nodes) != len(two.Nodes) || len(one.Nodes) != len(least) {
 			t.Fatalf("P10.2: %d and %d nodes are kept in two orders, of %d classes", len(one.Nodes), len(two.Nodes), len(least))
 		}

@@ -8,6 +8,7 @@ import (
 	"repartee/api"
 	"repartee/book"
 	"repartee/equal"
+	"repartee/sketch"
 )
 
 var shrunk = []struct{ what, roots, nodes, wantRoots, want string }{
@@ -36,11 +37,11 @@ var shrunk = []struct{ what, roots, nodes, wantRoots, want string }{
 
 func TestShrinkByHand(t *testing.T) {
 	for _, c := range shrunk {
-		b, want := booked(c.roots, c.nodes), booked(c.wantRoots, c.want)
+		b, want := sketch.Book(c.roots, c.nodes), sketch.Book(c.wantRoots, c.want)
 		// The Names of a valid book are in ascending order.
 		b.Names, b.Roots = inOrder(b)
 		want.Names, want.Roots = inOrder(want)
-		if got := equal.Shrink(b); !sameBooks(got, want) {
+		if got := equal.Shrink(b); !sketch.Same(got, want) {
 			t.Errorf("P10.2: %s: Shrink(%v) = %v, want %v", c.what, b, got, want)
 		}
 		check(t, b)
@@ -59,11 +60,11 @@ func TestShrinkOfAProgramsBook(t *testing.T) {
 	if f != (api.Fault{}) {
 		t.Fatal("the book has the fault", f)
 	}
-	if got := equal.Classes(b); !slices.Equal(got, numbers("0 1 2 1 4 4 4 7 1")) {
+	if got := equal.Classes(b); !slices.Equal(got, sketch.Numbers("0 1 2 1 4 4 4 7 1")) {
 		t.Errorf("P10.1: Classes(%v) = %v", b, got)
 	}
-	want := booked("one=3 p.a=0 p.b=2 three=4 two=3", "b!x:5.3>1 . a?x:5.3>1 b!y>3 b!y>1")
-	if got := equal.Shrink(b); !sameBooks(got, want) {
+	want := sketch.Book("one=3 p.a=0 p.b=2 three=4 two=3", "b!x:5.3>1 . a?x:5.3>1 b!y>3 b!y>1")
+	if got := equal.Shrink(b); !sketch.Same(got, want) {
 		t.Errorf("P10.2: Shrink(%v) = %v, want %v", b, got, want)
 	}
 	check(t, b)
@@ -81,7 +82,7 @@ func inOrder(b api.Book) ([]string, []int) {
 
 // Names are kept whatever they are: a valid book may have any strings there, and any number of them.
 func TestNamesAreKept(t *testing.T) {
-	b := booked("", "b!x>1 b!x>0 . .")
+	b := sketch.Book("", "b!x>1 b!x>0 . .")
 	b.Names, b.Roots = []string{"", "A", "a b", "a.b.c", "end", "\xff"}, []int{3, 2, 1, 0, 1, 3}
 	check(t, b)
 	if s := equal.Shrink(b); !slices.Equal(s.Names, b.Names) || !slices.Equal(s.Roots, []int{1, 1, 0, 0, 0, 1}) {
@@ -97,15 +98,15 @@ func TestNamesAreKept(t *testing.T) {
 // Nodes of one class are left out whether a Root reaches them or not, and the Roots do not change what is equal.
 func TestRootsDoNotMatterToClasses(t *testing.T) {
 	for _, c := range classesOf {
-		b := booked("", c.nodes)
+		b := sketch.Book("", c.nodes)
 		want := equal.Shrink(b)
 		for i := range b.Nodes {
 			b.Names, b.Roots = []string{"a"}, []int{i}
 			check(t, b)
-			if s := equal.Shrink(b); !sameNodes(s.Nodes, want.Nodes) {
+			if s := equal.Shrink(b); !sketch.SameNodes(s.Nodes, want.Nodes) {
 				t.Errorf("P10.2: the nodes of Shrink(%v) are %v, want %v", b, s.Nodes, want.Nodes)
 			}
-			if classes := equal.Classes(b); !slices.Equal(classes, numbers(c.want)) {
+			if classes := equal.Classes(b); !slices.Equal(classes, sketch.Numbers(c.want)) {
 				t.Errorf("P10.1: Classes(%v) = %v", b, classes)
 			}
 		}
