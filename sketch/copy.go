@@ -47,11 +47,6 @@ func Reorder(b api.Book, order []int) api.Book {
 	return s
 }
 
-// RoomyList returns a copy of l with memory beyond its length, in which these stand.
-func RoomyList[T any](l []T, beyond ...T) []T {
-	return append(slices.Clone(l), beyond...)[:len(l)]
-}
-
 // Roomy returns a copy of b with two more in the memory beyond the length of each list, which would count if they were read.
 func Roomy(b api.Book) api.Book {
 	c := api.Book{
@@ -65,11 +60,6 @@ func Roomy(b api.Book) api.Book {
 	return c
 }
 
-// BeyondList returns a copy of the next two in the memory beyond the length of a roomy list.
-func BeyondList[T any](l []T) []T {
-	return slices.Clone(l[len(l) : len(l)+2])
-}
-
 // Beyond returns what stands beyond the lists of a roomy book.
 func Beyond(b api.Book) api.Book {
 	c := api.Book{Nodes: BeyondList(b.Nodes), Names: BeyondList(b.Names), Roots: BeyondList(b.Roots)}
@@ -77,4 +67,23 @@ func Beyond(b api.Book) api.Book {
 		c.Nodes = append(c.Nodes, api.Node{Arms: BeyondList(n.Arms)})
 	}
 	return c
+}
+
+// Spoil writes to all memory of b, also to what an append would get.
+func Spoil(b api.Book) {
+	for _, n := range b.Nodes {
+		SpoilList(n.Arms, api.Edge{Label: "spoiled", Sort: api.Sort{Kind: 9, At: -7}, Next: -7})
+	}
+	SpoilList(b.Nodes, api.Node{Kind: 9, Peer: "spoiled"})
+	SpoilList(b.Names, "spoiled")
+	SpoilList(b.Roots, -7)
+}
+
+// Apart reports whether no two nodes of b share memory. It writes to it.
+func Apart(b api.Book) bool {
+	var lists [][]api.Edge
+	for _, n := range b.Nodes {
+		lists = append(lists, n.Arms)
+	}
+	return ApartLists(lists, func(i int) api.Edge { return api.Edge{Next: i} })
 }

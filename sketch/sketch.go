@@ -1,4 +1,4 @@
-// Package sketch makes books for the tests of the layers that read books: small ones are written as text, and others are made from them.
+// Package sketch makes local types, protocols and books for the tests of the layers that read them: small ones are written as text, and others are made from them.
 package sketch
 
 import (
@@ -24,25 +24,42 @@ func Book(roots, nodes string) api.Book {
 
 // Node reads a node: a dot (the end), or its Peer, then ! (a Send) or ? (a Recv), then its edges.
 func Node(word string) api.Node {
-	if peer, edges, is := strings.Cut(word, "!"); is {
-		return api.Node{Kind: api.Send, Peer: peer, Arms: Edges(edges)}
+	kind, peer, edges := step(word)
+	return api.Node{Kind: kind, Peer: peer, Arms: Edges(edges)}
+}
+
+// step reads the Kind and the Peer of a node or turn, and leaves what follows as it is.
+func step(word string) (kind int, peer, rest string) {
+	if peer, rest, is := strings.Cut(word, "!"); is {
+		return api.Send, peer, rest
 	}
-	if peer, edges, is := strings.Cut(word, "?"); is {
-		return api.Node{Kind: api.Recv, Peer: peer, Arms: Edges(edges)}
+	if peer, rest, is := strings.Cut(word, "?"); is {
+		return api.Recv, peer, rest
 	}
-	return api.Node{}
+	return api.End, "", ""
 }
 
 // Edges reads edges, separated by commas: each is its label, perhaps a colon, a digit for the Kind that it carries, a dot and the At, and behind > the Next.
 func Edges(text string) []api.Edge {
 	var l []api.Edge
-	for word := range strings.SplitSeq(text, ",") {
-		what, next, _ := strings.Cut(word, ">")
-		label, carries, _ := strings.Cut(what, ":")
+	for _, word := range words(text) {
+		label, carries, next := choice(word)
 		kind, at, _ := strings.Cut(carries, ".")
-		l = append(l, api.Edge{Label: label, Sort: api.Sort{Kind: number(kind), At: number(at)}, Next: number(next)})
+		l = append(l, api.Edge{Label: label, Sort: api.Sort{Kind: number(kind), At: number(at)}, Next: next})
 	}
 	return l
+}
+
+// words returns what stands between commas.
+func words(text string) []string {
+	return strings.FieldsFunc(text, func(r rune) bool { return r == ',' })
+}
+
+// choice reads the label and the Next of an edge or arm, and leaves what it carries as it is.
+func choice(word string) (label, carries string, next int) {
+	what, to, _ := strings.Cut(word, ">")
+	label, carries, _ = strings.Cut(what, ":")
+	return label, carries, number(to)
 }
 
 // Numbers reads numbers, separated by blanks.
