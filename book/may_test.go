@@ -9,17 +9,18 @@ import (
 
 	"repartee/api"
 	"repartee/book"
+	"repartee/sketch"
 )
 
 var (
-	goodNames = []string{"a", "z", "b", "x", "seller2", "z9", "a0b1", "abcdefghijkl", "a00000000000", "ends", "end2", "main"}
-	badNames  = []string{"", "end", "to", "protocol", "A", "1", "2a", "aB", "a_b", "a b", " a", "a ", "a\n", "a\x00", "a.b", ".a", "a.", "é", "a\xff", "abcdefghijklm", "a000000000000", strings.Repeat("a", 1000)}
+	goodNames = sketch.Names()
+	badNames  = sketch.NoNames()
 	oddInts   = []int{math.MinInt, -1 << 32, -6, -2, -1, 6, 7, 256, 1 << 32, 1<<32 + 1, 1<<32 + 2, 1<<32 + 5, math.MaxInt}
 )
 
 // hosts are valid books for a node to be put in, so that each has four nodes: before, between and behind others, with names and without.
 func hosts(x api.Node) []api.Book {
-	plain := booked("", "b!x>3 . c?y:5.3>1,z:1>0").Nodes
+	plain := sketch.Book("", "b!x>3 . c?y:5.3>1,z:1>0").Nodes
 	return []api.Book{
 		{Nodes: append([]api.Node{x}, plain...)},
 		{Nodes: slices.Concat(plain[:1], []api.Node{x}, plain[1:]), Names: []string{"p.a"}, Roots: []int{1}},
@@ -83,7 +84,7 @@ func TestMayOfNames(t *testing.T) {
 		if c.names != "" {
 			l = strings.Split(c.names, ",")
 		}
-		b := api.Book{Nodes: booked("", "b!x>1 .").Nodes, Names: l, Roots: make([]int, len(l))}
+		b := api.Book{Nodes: sketch.Book("", "b!x>1 .").Nodes, Names: l, Roots: make([]int, len(l))}
 		if book.May(b) != c.want {
 			t.Errorf("P9.1: May with Names %q = %v", l, !c.want)
 		}
@@ -149,7 +150,7 @@ func TestMayOfRoots(t *testing.T) {
 func TestMayOfEnds(t *testing.T) {
 	checkNode(t, api.Node{}, true)
 	checkNode(t, api.Node{Arms: []api.Edge{}}, true)
-	for _, arms := range [][]api.Edge{nil, {}, {{}}, edgesOf("x>0"), edgesOf("a>0,b>0,c>0,d>0,e>0,f>0,g>0")} {
+	for _, arms := range [][]api.Edge{nil, {}, {{}}, sketch.Edges("x>0"), sketch.Edges("a>0,b>0,c>0,d>0,e>0,f>0,g>0")} {
 		for _, peer := range []string{"", "b", "end", "A"} {
 			checkNode(t, api.Node{Peer: peer, Arms: arms}, peer == "" && len(arms) == 0)
 		}
@@ -159,19 +160,19 @@ func TestMayOfEnds(t *testing.T) {
 func TestMayOfKinds(t *testing.T) {
 	for _, k := range append([]int{0, 1, 2, 3, 4, 5}, oddInts...) {
 		checkNode(t, api.Node{Kind: k}, k == 0)
-		checkNode(t, api.Node{Kind: k, Peer: "b", Arms: edgesOf("x>0")}, k == 1 || k == 2)
+		checkNode(t, api.Node{Kind: k, Peer: "b", Arms: sketch.Edges("x>0")}, k == 1 || k == 2)
 		checkNode(t, api.Node{Kind: k, Peer: "b"}, false)
-		checkNode(t, api.Node{Kind: k, Arms: edgesOf("x>0")}, false)
+		checkNode(t, api.Node{Kind: k, Arms: sketch.Edges("x>0")}, false)
 	}
 }
 
 func TestMayOfPeers(t *testing.T) {
 	for _, kind := range []int{api.Send, api.Recv} {
 		for _, p := range goodNames {
-			checkNode(t, api.Node{Kind: kind, Peer: p, Arms: edgesOf("x>0,y>1")}, true)
+			checkNode(t, api.Node{Kind: kind, Peer: p, Arms: sketch.Edges("x>0,y>1")}, true)
 		}
 		for _, p := range badNames {
-			checkNode(t, api.Node{Kind: kind, Peer: p, Arms: edgesOf("x>0,y>1")}, false)
+			checkNode(t, api.Node{Kind: kind, Peer: p, Arms: sketch.Edges("x>0,y>1")}, false)
 		}
 	}
 }

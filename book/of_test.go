@@ -9,6 +9,7 @@ import (
 	"repartee/api"
 	"repartee/book"
 	"repartee/project"
+	"repartee/sketch"
 )
 
 // books are protocols and local types without fault, and their books.
@@ -53,8 +54,8 @@ var books = []struct {
 func TestOf(t *testing.T) {
 	for _, c := range books {
 		ps, ls := parts(c.parts...)
-		want := booked(c.roots, c.nodes)
-		if b, f := book.Of(ps, ls); f != (api.Fault{}) || !equal(b, want) {
+		want := sketch.Book(c.roots, c.nodes)
+		if b, f := book.Of(ps, ls); f != (api.Fault{}) || !sketch.Same(b, want) {
 			t.Errorf("P9.2: Of(%q) = %v, %v, want %v", c.parts, b, f, want)
 		}
 		if !book.May(want) {
@@ -144,7 +145,7 @@ var refusals = []struct {
 func TestFaults(t *testing.T) {
 	for _, c := range refusals {
 		ps, ls := parts(c.parts...)
-		if b, f := book.Of(ps, ls); f != c.want || !equal(b, api.Book{}) {
+		if b, f := book.Of(ps, ls); f != c.want || !sketch.Same(b, api.Book{}) {
 			t.Errorf("P9.2: Of(%q) = %v, %v, want %v", c.parts, b, f, c.want)
 		}
 		check(t, ps, ls)
@@ -156,10 +157,10 @@ func many(protocols, locals int) ([]api.Protocol, []api.Local) {
 	var ps []api.Protocol
 	var ls []api.Local
 	for i := range protocols {
-		ps = append(ps, protocol("p"+strconv.Itoa(i), "a b", "."))
+		ps = append(ps, sketch.Protocol("p"+strconv.Itoa(i), "a b", "."))
 	}
 	for i := range locals {
-		ls = append(ls, local("l"+strconv.Itoa(i), "."))
+		ls = append(ls, sketch.Local("l"+strconv.Itoa(i), "."))
 	}
 	return ps, ls
 }
@@ -180,8 +181,8 @@ func TestNumbersOfProtocolsAndLocals(t *testing.T) {
 	}
 	// Too many come before all else, whatever they are.
 	for _, n := range [][2]int{{7, 0}, {0, 13}, {7, 13}, {6, 13}, {7, 12}, {1000, 0}, {0, 1000}} {
-		for _, ps := range [][]api.Protocol{make([]api.Protocol, n[0]), slices.Repeat([]api.Protocol{protocol("p", "a b", "a-b!x:5none>0")}, n[0])} {
-			for _, ls := range [][]api.Local{make([]api.Local, n[1]), slices.Repeat([]api.Local{local("p", "b!x:5none>0")}, n[1])} {
+		for _, ps := range [][]api.Protocol{make([]api.Protocol, n[0]), slices.Repeat([]api.Protocol{sketch.Protocol("p", "a b", "a-b!x:5none>0")}, n[0])} {
+			for _, ls := range [][]api.Local{make([]api.Local, n[1]), slices.Repeat([]api.Local{sketch.Local("p", "b!x:5none>0")}, n[1])} {
 				if _, f := check(t, ps, ls); f != (api.Fault{Err: api.ErrBookForm, Part: -1, At: -1}) {
 					t.Errorf("P9.2: Of %d protocols and %d local types: %v", n[0], n[1], f)
 				}
@@ -196,7 +197,7 @@ func ring(name, roles string, points int) api.Protocol {
 	for i := range points {
 		text = append(text, "a-b!x>"+strconv.Itoa((i+1)%points))
 	}
-	return protocol(name, roles, strings.Join(text, " "))
+	return sketch.Protocol(name, roles, strings.Join(text, " "))
 }
 
 // rings is a protocol of 23 points in which a tells b to which of two rings it goes, on which b tells c and d in turn, forever. As c and d do not know the ring, and one is of 5 rounds and one of 6, each of them has 30 turns; b has 23, and a has 2.
@@ -211,7 +212,7 @@ func rings(name string) api.Protocol {
 		}
 		text = append(text, []string{"b-c", "b-d"}[i%2]+"!x>"+strconv.Itoa(next))
 	}
-	return protocol(name, "a b c d", strings.Join(text, " "))
+	return sketch.Protocol(name, "a b c d", strings.Join(text, " "))
 }
 
 const ringsNodes = 85
@@ -225,7 +226,7 @@ func cycle(name string, turns, beyond int) api.Local {
 	for range beyond {
 		text = append(text, "q!y>0")
 	}
-	return local(name, strings.Join(text, " "))
+	return sketch.Local(name, strings.Join(text, " "))
 }
 
 // cycles are so many local types of so many turns each.
@@ -251,17 +252,17 @@ func TestNumbersOfNodes(t *testing.T) {
 		{nil, cycles(10, 40, 0), 400, 0},
 		{nil, append(cycles(9, 40, 0), cycle("r", 20, 20), cycle("s", 20, 0)), 400, 0},
 		{nil, append(cycles(9, 40, 0), cycle("r", 20, 20), cycle("s", 21, 0)), 0, 10},
-		{nil, append(cycles(10, 40, 0), local("r", ".")), 0, 10},
-		{nil, append(cycles(10, 40, 0), local("r", "."), cycle("s", 40, 0)), 0, 10},
+		{nil, append(cycles(10, 40, 0), sketch.Local("r", ".")), 0, 10},
+		{nil, append(cycles(10, 40, 0), sketch.Local("r", "."), cycle("s", 40, 0)), 0, 10},
 		{nil, append(cycles(11, 36, 4), cycle("r", 4, 36)), 400, 0},
 		{nil, append(cycles(11, 36, 4), cycle("r", 5, 35)), 0, 11},
 		{nil, append(cycles(11, 36, 0), cycle("r", 40, 0)), 0, 11},
 		{nil, cycles(12, 1, 39), 12, 0},
 		{[]api.Protocol{ring("p", "a b", 20)}, cycles(9, 40, 0), 400, 0},
-		{[]api.Protocol{ring("p", "a b", 20)}, append(cycles(9, 40, 0), local("r", ".")), 0, 10},
+		{[]api.Protocol{ring("p", "a b", 20)}, append(cycles(9, 40, 0), sketch.Local("r", ".")), 0, 10},
 		{[]api.Protocol{ring("p", "a b c", 20)}, cycles(9, 40, 0), 0, 9},
-		{[]api.Protocol{ring("p", "a b c d e", 17), protocol("q", "b a c", ".")}, cycles(9, 40, 0), 400, 0},
-		{[]api.Protocol{ring("p", "a b c d e", 17), protocol("q", "b a c d", ".")}, cycles(9, 40, 0), 0, 10},
+		{[]api.Protocol{ring("p", "a b c d e", 17), sketch.Protocol("q", "b a c", ".")}, cycles(9, 40, 0), 400, 0},
+		{[]api.Protocol{ring("p", "a b c d e", 17), sketch.Protocol("q", "b a c d", ".")}, cycles(9, 40, 0), 0, 10},
 		{four, nil, 4 * ringsNodes, 0},
 		{append(slices.Clone(four), rings("p")), nil, 0, 4},
 		{append(slices.Clone(four), rings("p"), rings("q")), cycles(12, 40, 0), 0, 4},
@@ -294,7 +295,7 @@ var kinds = []struct {
 }{
 	{api.ErrBookRole, func(ps []api.Protocol, ls []api.Local, part int) api.Fault {
 		if part < len(ps) {
-			ps[part].Points = protocol("", "", "a-b!x>1,y>2 . b-c!z>1").Points
+			ps[part].Points = sketch.Protocol("", "", "a-b!x>1,y>2 . b-c!z>1").Points
 		}
 		return api.Fault{Err: api.ErrBookRole, Part: part, At: 2}
 	}},
@@ -302,11 +303,11 @@ var kinds = []struct {
 		f := api.Fault{Err: api.ErrBookName, Part: part}
 		if part < len(ps) {
 			f.At = len(ps[part].Points)
-			ps[part].Points = append(ps[part].Points, protocol("", "", "a-b!w:5none>0").Points...)
+			ps[part].Points = append(ps[part].Points, sketch.Protocol("", "", "a-b!w:5none>0").Points...)
 		} else {
 			l := &ls[part-len(ps)]
 			f.At = len(l.Turns)
-			l.Turns = append(l.Turns, local("", "b!w:5none>0").Turns...)
+			l.Turns = append(l.Turns, sketch.Local("", "b!w:5none>0").Turns...)
 		}
 		return f
 	}},
@@ -320,10 +321,10 @@ var kinds = []struct {
 	}},
 	{api.ErrBookForm, func(ps []api.Protocol, ls []api.Local, part int) api.Fault {
 		if part < len(ps) {
-			ps[part].Points = append(ps[part].Points, protocol("", "", "a-a!x>0").Points...)
+			ps[part].Points = append(ps[part].Points, sketch.Protocol("", "", "a-a!x>0").Points...)
 		} else {
 			l := &ls[part-len(ps)]
-			l.Turns = append(l.Turns, local("", "end!x>0").Turns...)
+			l.Turns = append(l.Turns, sketch.Local("", "end!x>0").Turns...)
 		}
 		return api.Fault{Err: api.ErrBookForm, Part: part, At: -1}
 	}},

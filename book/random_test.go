@@ -9,6 +9,7 @@ import (
 	"repartee/api"
 	"repartee/book"
 	"repartee/project"
+	"repartee/sketch"
 )
 
 // draft draws protocols and local types. Each of its faults is there in some of the drafts only, so that all kinds of faults are the first one often enough.
@@ -217,7 +218,7 @@ func TestTheOrderOfArmsIsNoMatter(t *testing.T) {
 			}
 		}
 		// What is added may carry what is not there.
-		if b, f := book.Of(ps, ls); f.Err != api.ErrBookName && (f != fault || !equal(b, want)) {
+		if b, f := book.Of(ps, ls); f.Err != api.ErrBookName && (f != fault || !sketch.Same(b, want)) {
 			t.Fatalf("P9.2: Of(%v, %v) = %v, %v, want %v", ps, ls, b, f, want)
 		} else if f == fault {
 			same++

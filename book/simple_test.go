@@ -3,7 +3,6 @@ package book_test
 import (
 	"cmp"
 	"slices"
-	"strconv"
 	"strings"
 	"testing"
 
@@ -12,155 +11,37 @@ import (
 	"repartee/globe"
 	"repartee/names"
 	"repartee/project"
+	"repartee/sketch"
 	"repartee/turns"
 )
 
-// parts reads protocols and local types. A protocol is its Name, its roles in brackets, a colon and its points; a local type is its Name, a colon and its turns. A point or turn is a dot (the end), or who, then ! or ?, then arms separated by commas: who is From, -, To for a point, and the Peer for a turn. An arm is its label, perhaps a colon, a digit for the Kind that it carries and the Name, and behind > the Next.
+// parts reads protocols and local types. A protocol is its Name, its roles in brackets, a colon and its points; a local type is its Name, a colon and its turns.
 func parts(texts ...string) ([]api.Protocol, []api.Local) {
 	var ps []api.Protocol
 	var ls []api.Local
 	for _, text := range texts {
 		head, body, _ := strings.Cut(text, ": ")
 		if name, roles, is := strings.Cut(strings.TrimSuffix(head, ")"), "("); is {
-			ps = append(ps, protocol(name, roles, body))
+			ps = append(ps, sketch.Protocol(name, roles, body))
 		} else {
-			ls = append(ls, local(head, body))
+			ls = append(ls, sketch.Local(head, body))
 		}
 	}
 	return ps, ls
 }
 
-func protocol(name, roles, points string) api.Protocol {
-	p := api.Protocol{Name: name, Roles: strings.Fields(roles)}
-	for _, word := range strings.Fields(points) {
-		who, arms, _ := strings.Cut(word, "!")
-		x := api.Point{Arms: armsOf(arms)}
-		if word != "." {
-			x.From, x.To, _ = strings.Cut(who, "-")
-		}
-		p.Points = append(p.Points, x)
+// copiedProtocols are ps in memory of their own, as are copiedLocals.
+func copiedProtocols(ps []api.Protocol) []api.Protocol { return each(ps, sketch.CopyProtocol) }
+
+func copiedLocals(ls []api.Local) []api.Local { return each(ls, sketch.CopyLocal) }
+
+// each is what f says of each element of l.
+func each[T any](l []T, f func(T) T) []T {
+	var all []T
+	for _, x := range l {
+		all = append(all, f(x))
 	}
-	return p
-}
-
-func local(name, text string) api.Local {
-	l := api.Local{Name: name}
-	for _, word := range strings.Fields(text) {
-		kind, peer, arms := step(word)
-		l.Turns = append(l.Turns, api.Turn{Kind: kind, Peer: peer, Arms: armsOf(arms)})
-	}
-	return l
-}
-
-// booked reads a book: each name with = and its root, separated by blanks, and its nodes, which are written as turns. What an edge carries is the Kind and, behind a dot, the At.
-func booked(roots, nodes string) api.Book {
-	var b api.Book
-	for _, word := range strings.Fields(roots) {
-		name, root, _ := strings.Cut(word, "=")
-		b.Names = append(b.Names, name)
-		b.Roots = append(b.Roots, number(root))
-	}
-	for _, word := range strings.Fields(nodes) {
-		kind, peer, arms := step(word)
-		b.Nodes = append(b.Nodes, api.Node{Kind: kind, Peer: peer, Arms: edgesOf(arms)})
-	}
-	return b
-}
-
-// step reads the Kind and the Peer of a turn or node, and leaves its arms as they are.
-func step(word string) (kind int, peer, arms string) {
-	if peer, arms, is := strings.Cut(word, "!"); is {
-		return api.Send, peer, arms
-	}
-	if peer, arms, is := strings.Cut(word, "?"); is {
-		return api.Recv, peer, arms
-	}
-	return api.End, "", ""
-}
-
-func armsOf(text string) []api.Arm {
-	var l []api.Arm
-	for _, word := range words(text) {
-		label, kind, rest, next := arm(word)
-		l = append(l, api.Arm{Label: label, Carries: api.Carries{Kind: kind, Name: rest}, Next: next})
-	}
-	return l
-}
-
-func edgesOf(text string) []api.Edge {
-	var l []api.Edge
-	for _, word := range words(text) {
-		label, kind, rest, next := arm(word)
-		l = append(l, api.Edge{Label: label, Sort: api.Sort{Kind: kind, At: number(strings.TrimPrefix(rest, "."))}, Next: next})
-	}
-	return l
-}
-
-func words(arms string) []string {
-	return strings.FieldsFunc(arms, func(r rune) bool { return r == ',' })
-}
-
-func arm(word string) (label string, kind int, rest string, next int) {
-	what, to, _ := strings.Cut(word, ">")
-	label, carries, is := strings.Cut(what, ":")
-	if is {
-		kind, rest = number(carries[:1]), carries[1:]
-	}
-	return label, kind, rest, number(to)
-}
-
-func number(text string) int {
-	n, _ := strconv.Atoi(text)
-	return n
-}
-
-// copiedProtocols are ps in memory of their own, as are copiedLocals and copiedBook.
-func copiedProtocols(ps []api.Protocol) []api.Protocol {
-	ps = slices.Clone(ps)
-	for i := range ps {
-		ps[i].Roles, ps[i].Points = slices.Clone(ps[i].Roles), slices.Clone(ps[i].Points)
-		for j := range ps[i].Points {
-			ps[i].Points[j].Arms = slices.Clone(ps[i].Points[j].Arms)
-		}
-	}
-	return ps
-}
-
-func copiedLocals(ls []api.Local) []api.Local {
-	ls = slices.Clone(ls)
-	for i := range ls {
-		ls[i].Turns = slices.Clone(ls[i].Turns)
-		for j := range ls[i].Turns {
-			ls[i].Turns[j].Arms = slices.Clone(ls[i].Turns[j].Arms)
-		}
-	}
-	return ls
-}
-
-func copiedBook(b api.Book) api.Book {
-	b.Nodes, b.Names, b.Roots = slices.Clone(b.Nodes), slices.Clone(b.Names), slices.Clone(b.Roots)
-	for i := range b.Nodes {
-		b.Nodes[i].Arms = slices.Clone(b.Nodes[i].Arms)
-	}
-	return b
-}
-
-func equalProtocol(a, b api.Protocol) bool {
-	return a.Name == b.Name && slices.Equal(a.Roles, b.Roles) && slices.EqualFunc(a.Points, b.Points, func(x, y api.Point) bool {
-		return x.From == y.From && x.To == y.To && slices.Equal(x.Arms, y.Arms)
-	})
-}
-
-func equalLocal(a, b api.Local) bool {
-	return a.Name == b.Name && slices.EqualFunc(a.Turns, b.Turns, func(x, y api.Turn) bool {
-		return x.Kind == y.Kind && x.Peer == y.Peer && slices.Equal(x.Arms, y.Arms)
-	})
-}
-
-func equal(a, b api.Book) bool {
-	return slices.Equal(a.Names, b.Names) && slices.Equal(a.Roots, b.Roots) && slices.EqualFunc(a.Nodes, b.Nodes, func(x, y api.Node) bool {
-		return x.Kind == y.Kind && x.Peer == y.Peer && slices.Equal(x.Arms, y.Arms)
-	})
+	return all
 }
 
 // part is a protocol or a local type as chapter 9 looks at it: whether it is valid, the arms of its points or turns, and the local types that it adds to the book. If a protocol is refused, role is the index of the role, and -1 otherwise.
@@ -349,7 +230,7 @@ func simpleSort(b api.Book, c api.Carries) (api.Sort, bool) {
 // checkBook checks what May, Root and Sort say of b, for its own names and others, and that b stays as it is.
 func checkBook(t *testing.T, b api.Book) bool {
 	t.Helper()
-	before := copiedBook(b)
+	before := sketch.Copy(b)
 	want := simpleMay(b)
 	if got := book.May(b); got != want {
 		t.Fatalf("P9.1: May(%v) = %v", b, got)
@@ -367,7 +248,7 @@ func checkBook(t *testing.T, b api.Book) bool {
 			checkSort(t, b, api.Carries{Kind: kind, Name: name})
 		}
 	}
-	if !equal(b, before) {
+	if !sketch.Same(b, before) {
 		t.Fatalf("P0.4: %v was changed to %v", before, b)
 	}
 	return want
@@ -389,12 +270,12 @@ func check(t *testing.T, ps []api.Protocol, ls []api.Local) (api.Book, api.Fault
 	var got api.Book
 	for range 2 {
 		b, f := book.Of(ps, ls)
-		if f != wantFault || !equal(b, want) {
+		if f != wantFault || !sketch.Same(b, want) {
 			t.Fatalf("P9.2: Of(%v, %v) = %v, %v, want %v, %v", ps, ls, b, f, want, wantFault)
 		}
 		got = b
 	}
-	if !slices.EqualFunc(ps, beforePs, equalProtocol) || !slices.EqualFunc(ls, beforeLs, equalLocal) {
+	if !slices.EqualFunc(ps, beforePs, sketch.SameProtocol) || !slices.EqualFunc(ls, beforeLs, sketch.SameLocal) {
 		t.Fatalf("P0.4: %v and %v were changed to %v and %v", beforePs, beforeLs, ps, ls)
 	}
 	if !checkBook(t, got) {

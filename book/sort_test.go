@@ -6,10 +6,11 @@ import (
 
 	"repartee/api"
 	"repartee/book"
+	"repartee/sketch"
 )
 
 func TestRoot(t *testing.T) {
-	b := booked("a=4 p.a=2 p.b=0 p1=3 p2.a=1 rest=2", "b!x:5.4>1 . b?x>2 c!y:3>3 .")
+	b := sketch.Book("a=4 p.a=2 p.b=0 p1=3 p2.a=1 rest=2", "b!x:5.4>1 . b?x>2 c!y:3>3 .")
 	for name, want := range map[string]int{"a": 4, "p.a": 2, "p.b": 0, "p1": 3, "p2.a": 1, "rest": 2} {
 		if at, is := book.Root(b, name); at != want || !is {
 			t.Errorf("P9.3: Root of %q = %d, %v", name, at, is)
@@ -45,25 +46,25 @@ func TestRootInBooksOfAllSizes(t *testing.T) {
 
 // invalidBooks have all but one thing that makes a book with the names p.a and rest valid.
 var invalidBooks = []api.Book{
-	booked("p.a=0 rest=5", "b!x>1 ."),
-	booked("p.a=-1 rest=0", "b!x>1 ."),
-	booked("rest=0 p.a=0", "b!x>1 ."),
-	booked("p.a=0 p.a=0 rest=0", "b!x>1 ."),
-	booked("p.a=0 rest=0 rest=1", "b!x>1 ."),
-	booked("p.a=0 rest=0", "b!x>2 ."),
-	booked("p.a=0 rest=0", "b!x>1 . b!x>-1"),
-	booked("p.a=0 rest=0", "b!y>1,x>1 ."),
-	booked("p.a=0 rest=0", "b!x>1,x>1 ."),
-	booked("p.a=0 rest=0", "b!x:6>1 ."),
-	booked("p.a=0 rest=0", "b!x:1.1>1 ."),
-	booked("p.a=0 rest=0", "b!x:5.2>1 ."),
-	booked("p.a=0 rest=0", "b!x:5.-1>1 ."),
-	booked("p.a=0 rest=0", "end!x>1 ."),
-	booked("p.a=0 rest=0", "b!end>1 ."),
-	booked("p.a=0 rest=0", "!x>1 ."),
-	booked("p.a=0 rest=0", "b! ."),
-	booked("p.a=0 rest=0", "b!a>1,b>1,c>1,d>1,e>1,f>1,g>1 ."),
-	booked("p.a=0 rest=0", strings.Repeat(". ", 401)),
+	sketch.Book("p.a=0 rest=5", "b!x>1 ."),
+	sketch.Book("p.a=-1 rest=0", "b!x>1 ."),
+	sketch.Book("rest=0 p.a=0", "b!x>1 ."),
+	sketch.Book("p.a=0 p.a=0 rest=0", "b!x>1 ."),
+	sketch.Book("p.a=0 rest=0 rest=1", "b!x>1 ."),
+	sketch.Book("p.a=0 rest=0", "b!x>2 ."),
+	sketch.Book("p.a=0 rest=0", "b!x>1 . b!x>-1"),
+	sketch.Book("p.a=0 rest=0", "b!y>1,x>1 ."),
+	sketch.Book("p.a=0 rest=0", "b!x>1,x>1 ."),
+	sketch.Book("p.a=0 rest=0", "b!x:6>1 ."),
+	sketch.Book("p.a=0 rest=0", "b!x:1.1>1 ."),
+	sketch.Book("p.a=0 rest=0", "b!x:5.2>1 ."),
+	sketch.Book("p.a=0 rest=0", "b!x:5.-1>1 ."),
+	sketch.Book("p.a=0 rest=0", "end!x>1 ."),
+	sketch.Book("p.a=0 rest=0", "b!end>1 ."),
+	sketch.Book("p.a=0 rest=0", "!x>1 ."),
+	sketch.Book("p.a=0 rest=0", "b! ."),
+	sketch.Book("p.a=0 rest=0", "b!a>1,b>1,c>1,d>1,e>1,f>1,g>1 ."),
+	sketch.Book("p.a=0 rest=0", strings.Repeat(". ", 401)),
 	{Names: []string{"p.a", "rest"}, Roots: []int{0, 0}},
 	{Nodes: make([]api.Node, 2), Names: []string{"p.a", "rest"}, Roots: []int{0}},
 	{Nodes: make([]api.Node, 2), Names: []string{"p.a", "rest"}, Roots: []int{0, 0, 0}},
@@ -96,7 +97,7 @@ func TestInvalidBooks(t *testing.T) {
 }
 
 func TestSort(t *testing.T) {
-	for _, b := range []api.Book{{}, booked("p.a=0 p.b=1 rest=2", ". . .")} {
+	for _, b := range []api.Book{{}, sketch.Book("p.a=0 p.b=1 rest=2", ". . .")} {
 		for kind := api.Unit; kind < api.Chan; kind++ {
 			if s, is := book.Sort(b, api.Carries{Kind: kind}); s != (api.Sort{Kind: kind}) || !is {
 				t.Errorf("P9.3: Sort of %d = %v, %v", kind, s, is)
@@ -116,7 +117,7 @@ func TestSort(t *testing.T) {
 		}
 		checkSort(t, b, api.Carries{Kind: api.Chan})
 	}
-	b := booked("rest=2", ". . .")
+	b := sketch.Book("rest=2", ". . .")
 	if s, is := book.Sort(b, api.Carries{Kind: api.Chan, Name: "rest"}); s != (api.Sort{Kind: api.Chan, At: 2}) || !is {
 		t.Errorf("P9.3: Sort of rest = %v, %v", s, is)
 	}

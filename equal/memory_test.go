@@ -48,34 +48,14 @@ func TestNothingBeyondTheListsOfABookIsReadOrWritten(t *testing.T) {
 	}
 }
 
-// spoil writes to all memory of a book, also to what an append would get.
-func spoil(b api.Book) {
-	nodes, names, roots := b.Nodes[:cap(b.Nodes)], b.Names[:cap(b.Names)], b.Roots[:cap(b.Roots)]
-	for i := range nodes {
-		arms := nodes[i].Arms[:cap(nodes[i].Arms)]
-		for j := range arms {
-			arms[j] = api.Edge{Label: "spoiled", Sort: api.Sort{Kind: 9, At: -7}, Next: -7}
-		}
-		nodes[i] = api.Node{Kind: 9, Peer: "spoiled"}
-	}
-	for i := range names {
-		names[i] = "spoiled"
-	}
-	for i := range roots {
-		roots[i] = -7
-	}
-}
-
 func TestResultsAreNewMemory(t *testing.T) {
 	for _, plain := range someBooks() {
 		for _, b := range []api.Book{sketch.Copy(plain), sketch.Roomy(plain)} {
 			want, wantClasses := simpleShrink(plain, simpleClasses(plain)), simpleClasses(plain)
 			s, other := equal.Shrink(b), equal.Shrink(b)
 			classes, otherClasses := equal.Classes(b), equal.Classes(b)
-			spoil(s)
-			for i := range classes[:cap(classes)] {
-				classes[:cap(classes)][i] = -7
-			}
+			sketch.Spoil(s)
+			sketch.SpoilList(classes, -7)
 			if !sketch.Same(b, plain) {
 				t.Errorf("P0.4: a result shares its memory with the book %v", plain)
 			}
@@ -85,7 +65,7 @@ func TestResultsAreNewMemory(t *testing.T) {
 			if !sketch.Same(equal.Shrink(b), want) || !slices.Equal(equal.Classes(b), wantClasses) {
 				t.Errorf("P0.5: the results for the book %v are others when they were asked before", plain)
 			}
-			spoil(b)
+			sketch.Spoil(b)
 			if !sketch.Same(other, want) {
 				t.Errorf("P0.4: the shrunk book changes with the book %v", plain)
 			}
@@ -98,29 +78,18 @@ func TestShrunkBooksAreNewMemoryAgain(t *testing.T) {
 	for _, plain := range someBooks() {
 		one := equal.Shrink(plain)
 		two := equal.Shrink(one)
-		spoil(one)
+		sketch.Spoil(one)
 		if !sketch.Same(two, simpleShrink(plain, simpleClasses(plain))) {
 			t.Errorf("P0.4: the Shrink of a shrunk book shares its memory: %v", plain)
 		}
 	}
 }
 
-// No two nodes of a shrunk book share memory: an edge that is added to one, or changed in it, is in no other.
+// An edge that is added to one node, or changed in it, is in no other.
 func TestNodesOfAShrunkBookShareNoMemory(t *testing.T) {
 	for _, plain := range someBooks() {
-		want := equal.Shrink(plain)
-		for i := range want.Nodes {
-			s := equal.Shrink(plain)
-			arms := s.Nodes[i].Arms
-			for j := range arms[:cap(arms)] {
-				arms[:cap(arms)][j] = api.Edge{Label: "spoiled"}
-			}
-			s.Nodes[i].Arms = append(arms, api.Edge{Label: "added"})
-			for k := range want.Nodes {
-				if k != i && !slices.Equal(s.Nodes[k].Arms, want.Nodes[k].Arms) {
-					t.Fatalf("P0.4: nodes %d and %d of Shrink(%v) share memory", i, k, plain)
-				}
-			}
+		if !sketch.Apart(equal.Shrink(plain)) {
+			t.Errorf("P0.4: nodes of Shrink(%v) share memory", plain)
 		}
 	}
 }

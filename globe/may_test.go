@@ -9,11 +9,12 @@ import (
 
 	"repartee/api"
 	"repartee/globe"
+	"repartee/sketch"
 )
 
 var (
-	goodNames = []string{"a", "z", "b", "x", "seller2", "z9", "a0b1", "abcdefghijkl", "a00000000000", "ends", "end2", "main"}
-	badNames  = []string{"", "end", "to", "protocol", "roles", "A", "1", "2a", "aB", "a_b", "a b", " a", "a ", "a\n", "a\x00", "a.b", ".a", "a.", "é", "a\xff", "abcdefghijklm", "a000000000000", strings.Repeat("a", 1000)}
+	goodNames = sketch.Names()
+	badNames  = sketch.NoNames()
 	oddInts   = []int{math.MinInt, -1 << 32, -2, -1, 5, 6, 7, 256, 1 << 32, 1<<32 + 1, math.MaxInt}
 )
 
@@ -312,12 +313,12 @@ func TestMayOfOneWrongField(t *testing.T) {
 	}
 	for _, s := range []string{"A>0", ">0", "a>6", "a>-1", "a:6>0", "a:/>0", "a:1n>0", "a:5>0", "a:5p.>0", "a:5.r>0", "a:5p.r.s>0", "p>0"} {
 		changes = append(changes, func(x *api.Point) {
-			x.From, x.To, x.Arms = "b", "c", []api.Arm{{Label: "p"}, armed(s)}
+			x.From, x.To, x.Arms = "b", "c", []api.Arm{{Label: "p"}, sketch.Arms(s)[0]}
 		})
 	}
 	for i := range good.Points {
 		for _, change := range changes {
-			p := copied(good)
+			p := sketch.CopyProtocol(good)
 			change(&p.Points[i])
 			check(t, p, false)
 			if globe.Same(p, good) || globe.Same(good, p) {

@@ -7,6 +7,7 @@ import (
 
 	"repartee/api"
 	"repartee/globe"
+	"repartee/sketch"
 )
 
 // line is a protocol whose points are reached one after the other; c takes part in its point 2 alone.
@@ -95,11 +96,11 @@ func TestNear(t *testing.T) {
 		{"a-b!x>1 a-d!x>0", "a", "0", ""},
 		{"a-b!x>1 a-d!x>0", "d", "1", ""},
 	} {
-		p, from := proto(c.p), numbers(c.from)
-		if got := globe.Near(p, c.role, from); !slices.Equal(got, numbers(c.want)) {
+		p, from := proto(c.p), sketch.Numbers(c.from)
+		if got := globe.Near(p, c.role, from); !slices.Equal(got, sketch.Numbers(c.want)) {
 			t.Errorf("P7.3: Near of %s in %s from %s = %v, want %s", c.role, c.p, c.from, got, c.want)
 		}
-		if !slices.Equal(from, numbers(c.from)) || !equal(p, proto(c.p)) {
+		if !slices.Equal(from, sketch.Numbers(c.from)) || !sketch.SameProtocol(p, proto(c.p)) {
 			t.Errorf("P0.4: Near changed %s, or %s", c.p, c.from)
 		}
 		checkAll(t, p, someWays, append(manyFroms(len(p.Points)), from))
@@ -141,7 +142,7 @@ func TestLost(t *testing.T) {
 	} {
 		p := proto(c.p)
 		for at := -3; at < len(p.Points)+3; at++ {
-			if got := globe.Lost(p, c.role, at); got != slices.Contains(numbers(c.lost), at) {
+			if got := globe.Lost(p, c.role, at); got != slices.Contains(sketch.Numbers(c.lost), at) {
 				t.Errorf("P7.3: Lost of %s in %s at %d = %v", c.role, c.p, at, got)
 			}
 		}

@@ -7,16 +7,17 @@ import (
 
 	"repartee/api"
 	"repartee/globe"
+	"repartee/sketch"
 )
 
 // checkSame checks Same of a and b, and of b and a, and that they stay as they are.
 func checkSame(t *testing.T, a, b api.Protocol, want bool) {
 	t.Helper()
-	a2, b2 := copied(a), copied(b)
+	a2, b2 := sketch.CopyProtocol(a), sketch.CopyProtocol(b)
 	if globe.Same(a, b) != want || globe.Same(b, a) != want {
 		t.Fatalf("P7.2: Same(%v, %v) = %v", a, b, !want)
 	}
-	if !equal(a, a2) || !equal(b, b2) {
+	if !sketch.SameProtocol(a, a2) || !sketch.SameProtocol(b, b2) {
 		t.Fatalf("P0.4: Same changed %v to %v, or %v to %v", a2, a, b2, b)
 	}
 }
@@ -283,7 +284,7 @@ func TestSameOfShuffledProtocols(t *testing.T) {
 		b := shuffled(r, a)
 		checkSame(t, a, b, true)
 		x, y := globe.Trim(a), globe.Trim(b)
-		if y.Name = x.Name; !equal(x, y) {
+		if y.Name = x.Name; !sketch.SameProtocol(x, y) {
 			t.Fatalf("P7.2: the Trims of %v and %v differ: %v and %v", a, b, x, y)
 		}
 	}
@@ -294,7 +295,7 @@ func TestSameOfProtocolsThatDifferInOneField(t *testing.T) {
 	r := rand.New(rand.NewSource(9))
 	for i := range 2000 {
 		a := randomProtocol(r, 1+i%12)
-		b := copied(a)
+		b := sketch.CopyProtocol(a)
 		x := &b.Points[r.Intn(len(b.Points))]
 		if len(x.Arms) == 0 {
 			*x = api.Point{From: a.Roles[0], To: a.Roles[1], Arms: manyArms(1)}

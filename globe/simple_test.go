@@ -4,66 +4,20 @@ import (
 	"math"
 	"regexp"
 	"slices"
-	"strconv"
 	"strings"
 	"testing"
 
 	"repartee/api"
 	"repartee/globe"
 	"repartee/names"
+	"repartee/sketch"
 )
 
-// proto reads a protocol of the roles a, b and c: its points separated by blanks, each a dot (the end), or From, -, To, ! and arms separated by commas; an arm is its label, perhaps a colon, a digit for the Kind that it carries and the Name, and behind > the Next.
+// proto reads a protocol of the roles a, b and c.
 func proto(text string) api.Protocol { return rolesOf("a b c", text) }
 
 // rolesOf reads a protocol of these roles.
-func rolesOf(roles, text string) api.Protocol {
-	p := api.Protocol{Name: "p", Roles: strings.Fields(roles)}
-	for _, word := range strings.Fields(text) {
-		p.Points = append(p.Points, pointed(word))
-	}
-	return p
-}
-
-func pointed(text string) api.Point {
-	who, arms, _ := strings.Cut(text, "!")
-	if who == "." {
-		return api.Point{}
-	}
-	from, to, _ := strings.Cut(who, "-")
-	x := api.Point{From: from, To: to}
-	for _, a := range strings.Split(arms, ",") {
-		x.Arms = append(x.Arms, armed(a))
-	}
-	return x
-}
-
-func armed(text string) api.Arm {
-	what, next, _ := strings.Cut(text, ">")
-	label, carries, _ := strings.Cut(what, ":")
-	a := api.Arm{Label: label}
-	a.Next, _ = strconv.Atoi(next)
-	if carries != "" {
-		a.Carries = api.Carries{Kind: int(carries[0] - '0'), Name: carries[1:]}
-	}
-	return a
-}
-
-// copied is p in memory of its own.
-func copied(p api.Protocol) api.Protocol {
-	p.Roles, p.Points = slices.Clone(p.Roles), slices.Clone(p.Points)
-	for i := range p.Points {
-		p.Points[i].Arms = slices.Clone(p.Points[i].Arms)
-	}
-	return p
-}
-
-// equal reports whether all fields of a and b are equal.
-func equal(a, b api.Protocol) bool {
-	return a.Name == b.Name && slices.Equal(a.Roles, b.Roles) && slices.EqualFunc(a.Points, b.Points, func(x, y api.Point) bool {
-		return x.From == y.From && x.To == y.To && slices.Equal(x.Arms, y.Arms)
-	})
-}
+func rolesOf(roles, text string) api.Protocol { return sketch.Protocol("p", roles, text) }
 
 var shape = regexp.MustCompile(`\A[a-z][a-z0-9]{0,11}\z`)
 
@@ -253,7 +207,7 @@ func manyFroms(n int) [][]int {
 // checkAll holds what every function says of p against the simple functions, twice, and checks that p stays as it is and that its Trim is as chapter 6 says. It returns whether p is valid.
 func checkAll(t *testing.T, p api.Protocol, ways [][]string, froms [][]int) bool {
 	t.Helper()
-	before := copied(p)
+	before := sketch.CopyProtocol(p)
 	may := simpleMay(p)
 	for range 2 {
 		if globe.May(p) != may {
@@ -263,7 +217,7 @@ func checkAll(t *testing.T, p api.Protocol, ways [][]string, froms [][]int) bool
 		checkWays(t, p, may, ways)
 		checkRoles(t, p, may, froms)
 	}
-	if !equal(p, before) {
+	if !sketch.SameProtocol(p, before) {
 		t.Fatalf("P0.4: %v was changed to %v", before, p)
 	}
 	if may {
@@ -283,7 +237,7 @@ func checkGraph(t *testing.T, p api.Protocol, may bool) {
 	if got := globe.Reach(p); !slices.Equal(got, reach) {
 		t.Fatalf("P7.2: Reach(%v) = %v, want %v", p, got, reach)
 	}
-	if got := globe.Trim(p); !equal(got, trim) {
+	if got := globe.Trim(p); !sketch.SameProtocol(got, trim) {
 		t.Fatalf("P7.2: Trim(%v) = %v, want %v", p, got, trim)
 	}
 	if globe.Same(p, p) != may {
@@ -359,7 +313,7 @@ func checkTrim(t *testing.T, p api.Protocol, ways [][]string) {
 	if !globe.May(x) {
 		t.Fatalf("P7.2: the Trim of %v is not valid: %v", p, x)
 	}
-	if y := globe.Trim(x); !equal(x, y) {
+	if y := globe.Trim(x); !sketch.SameProtocol(x, y) {
 		t.Fatalf("P7.2: the Trim of %v is %v, and of that %v", p, x, y)
 	}
 	if !globe.Same(p, x) || !globe.Same(x, p) {

@@ -8,6 +8,7 @@ import (
 
 	"repartee/api"
 	"repartee/globe"
+	"repartee/sketch"
 )
 
 // trims are protocols with what Reach and Trim say of them.
@@ -48,28 +49,18 @@ var trims = []struct{ p, reach, trim string }{
 	{"a-b!x:3>1,y:2>1,z:1>1 .", "0 1", "a-b!x:3>1,y:2>1,z:1>1 ."},
 }
 
-// numbers reads numbers separated by blanks.
-func numbers(text string) []int {
-	var l []int
-	for _, s := range strings.Fields(text) {
-		n, _ := strconv.Atoi(s)
-		l = append(l, n)
-	}
-	return l
-}
-
 func TestReachAndTrim(t *testing.T) {
 	for _, c := range trims {
 		for _, roles := range []string{"a b c", "c b a", "b d a e c"} {
 			p, trim := rolesOf(roles, c.p), rolesOf(roles, c.trim)
 			p.Name, trim.Name = "some", "some"
-			if got := globe.Reach(p); !slices.Equal(got, numbers(c.reach)) {
+			if got := globe.Reach(p); !slices.Equal(got, sketch.Numbers(c.reach)) {
 				t.Errorf("P7.2: Reach of %s = %v, want %s", c.p, got, c.reach)
 			}
-			if got := globe.Trim(p); !equal(got, trim) {
+			if got := globe.Trim(p); !sketch.SameProtocol(got, trim) {
 				t.Errorf("P7.2: Trim of %s = %v, want %v", c.p, got, trim)
 			}
-			if got := globe.Trim(trim); !equal(got, trim) {
+			if got := globe.Trim(trim); !sketch.SameProtocol(got, trim) {
 				t.Errorf("P7.2: Trim of the Trim %s = %v", c.trim, got)
 			}
 			checkAll(t, p, someWays, manyFroms(len(p.Points)))
@@ -109,7 +100,7 @@ func TestTrimOfAWideProtocol(t *testing.T) {
 			p.Points[i].Arms = append(p.Points[i].Arms, api.Arm{Label: string(rune('f' - j)), Next: min(6*i+j+1, 23)})
 		}
 	}
-	want := numbers("0 6 5 4 3 2 1 23 22 21 20 19 18 17 16 15 14 13 12 11 10 9 8 7")
+	want := sketch.Numbers("0 6 5 4 3 2 1 23 22 21 20 19 18 17 16 15 14 13 12 11 10 9 8 7")
 	if got := globe.Reach(p); !slices.Equal(got, want) {
 		t.Errorf("P7.2: Reach of a wide protocol = %v, want %v", got, want)
 	}
@@ -192,35 +183,12 @@ func TestWalkOfALongWay(t *testing.T) {
 	}
 }
 
-// roomy is p with memory beyond its roles, its points and the arms of each, in which there is something that would count if it were read.
-func roomy(p api.Protocol) api.Protocol {
-	roles := append(slices.Clone(p.Roles), "beyond", "A", "beyond")
-	room := append(slices.Clone(p.Points), api.Point{From: "a", To: "beyond", Arms: []api.Arm{{Label: "beyond"}}}, api.Point{From: "c", To: "c"})
-	for i := range p.Points {
-		arms := append(slices.Clone(p.Points[i].Arms), api.Arm{Label: "beyond"}, api.Arm{Label: "x", Next: -1})
-		room[i].Arms = arms[:len(p.Points[i].Arms)]
-	}
-	p.Roles, p.Points = roles[:len(p.Roles)], room[:len(p.Points)]
-	return p
-}
-
-// beyond is what stands in the memory beyond the lists of a roomy protocol.
-func beyond(p api.Protocol) api.Protocol {
-	n := len(p.Points)
-	out := api.Protocol{Roles: slices.Clone(p.Roles[:len(p.Roles)+3][len(p.Roles):]), Points: slices.Clone(p.Points[:n+2][n:])}
-	for _, x := range p.Points {
-		k := len(x.Arms)
-		out.Points = append(out.Points, api.Point{Arms: slices.Clone(x.Arms[:k+2][k:])})
-	}
-	return out
-}
-
 func TestNothingBeyondAListIsReadOrWritten(t *testing.T) {
 	ways := [][]string{nil, {"x"}, {"x", "x"}, {"beyond"}, {"x", "beyond"}, {"y", "x"}}
 	for _, c := range trims {
 		p := proto(c.p)
-		r := roomy(p)
-		before := beyond(r)
+		r := sketch.RoomyProtocol(p)
+		before := sketch.BeyondProtocol(r)
 		checkAll(t, r, ways, fewFroms(len(p.Points)))
 		if !globe.Same(r, p) || !globe.Same(p, r) {
 			t.Errorf("P0.4: Same reads beyond the lists of %s", c.p)
@@ -228,16 +196,16 @@ func TestNothingBeyondAListIsReadOrWritten(t *testing.T) {
 		if globe.Lost(r, "beyond", 0) || len(globe.Near(r, "beyond", []int{0, len(p.Points)})) > 0 {
 			t.Errorf("P0.4: a role beyond those of %s was read", c.p)
 		}
-		if !equal(beyond(r), before) {
-			t.Errorf("P0.4: memory beyond the lists of %s was written: %v", c.p, beyond(r))
+		if !sketch.SameProtocol(sketch.BeyondProtocol(r), before) {
+			t.Errorf("P0.4: memory beyond the lists of %s was written: %v", c.p, sketch.BeyondProtocol(r))
 		}
 	}
 	// The points, the arms and the roles beyond are none.
-	next, arms, roles := roomy(proto("a-b!x>1 .")), roomy(proto("a-b!x>0")), roomy(proto("a-b!x>0"))
+	next, arms, roles := sketch.RoomyProtocol(proto("a-b!x>1 .")), sketch.RoomyProtocol(proto("a-b!x>0")), sketch.RoomyProtocol(proto("a-b!x>0"))
 	next.Points = next.Points[:1]
 	arms.Points[0].Arms = arms.Points[0].Arms[:0]
 	roles.Roles = roles.Roles[:1]
-	for _, p := range []api.Protocol{next, arms, roles, roomy(proto("")), roomy(rolesOf("", "."))} {
+	for _, p := range []api.Protocol{next, arms, roles, sketch.RoomyProtocol(proto("")), sketch.RoomyProtocol(rolesOf("", "."))} {
 		check(t, p, false)
 	}
 	labels, from := []string{"x", "zz", "x"}, []int{1, 0, 7}
@@ -249,71 +217,37 @@ func TestNothingBeyondAListIsReadOrWritten(t *testing.T) {
 	}
 }
 
-// spoil writes to all memory of p, also to what an append would get.
-func spoil(p api.Protocol) {
-	for i := range p.Points {
-		arms := p.Points[i].Arms[:cap(p.Points[i].Arms)]
-		for j := range arms {
-			arms[j] = api.Arm{Label: "spoiled", Next: -7}
-		}
-	}
-	p.Points, p.Roles = p.Points[:cap(p.Points)], p.Roles[:cap(p.Roles)]
-	for i := range p.Points {
-		p.Points[i] = api.Point{From: "spoiled", To: "spoiled"}
-	}
-	for i := range p.Roles {
-		p.Roles[i] = "spoiled"
-	}
-}
-
-func spoilNumbers(l []int) {
-	for i := range l[:cap(l)] {
-		l[:cap(l)][i] = -7
-	}
-}
-
 func TestResultsAreNewMemory(t *testing.T) {
 	for _, c := range trims {
 		p := proto(c.p)
-		for _, arg := range []api.Protocol{p, roomy(p), globe.Trim(p)} {
-			before, from := copied(arg), []int{0, 0}
+		for _, arg := range []api.Protocol{p, sketch.RoomyProtocol(p), globe.Trim(p)} {
+			before, from := sketch.CopyProtocol(arg), []int{0, 0}
 			reach, near, trim := globe.Reach(arg), globe.Near(arg, "a", from), globe.Trim(arg)
 			reach2, near2, trim2 := globe.Reach(arg), globe.Near(arg, "a", from), globe.Trim(arg)
-			spoilNumbers(reach)
-			spoilNumbers(near)
-			spoil(trim)
-			if !equal(arg, before) || !slices.Equal(from, []int{0, 0}) {
+			sketch.SpoilList(reach, -7)
+			sketch.SpoilList(near, -7)
+			sketch.SpoilProtocol(trim)
+			if !sketch.SameProtocol(arg, before) || !slices.Equal(from, []int{0, 0}) {
 				t.Fatalf("P0.4: a result shares its memory with the argument %s", c.p)
 			}
-			if !slices.Equal(reach2, simpleReach(before)) || !slices.Equal(near2, simpleNear(before, closure(before, "a"), "a", from)) || !equal(trim2, simpleTrim(before)) {
+			if !slices.Equal(reach2, simpleReach(before)) || !slices.Equal(near2, simpleNear(before, closure(before, "a"), "a", from)) || !sketch.SameProtocol(trim2, simpleTrim(before)) {
 				t.Fatalf("P0.4: two results of %s share memory", c.p)
 			}
 		}
 	}
 	// All the points of from are near, in their order.
 	p, from := proto("a-b!x>1 a-c!x>2 b-a!x>0"), []int{0, 1, 2}
-	spoilNumbers(globe.Near(p, "a", from))
+	sketch.SpoilList(globe.Near(p, "a", from), -7)
 	if !slices.Equal(from, []int{0, 1, 2}) {
 		t.Error("P0.4: a result of Near shares its memory with the indices")
 	}
 }
 
-// No two points of a Trim share memory: an arm that is added to one, or changed in it, is in no other.
+// An arm that is added to one point, or changed in it, is in no other.
 func TestPointsOfATrimShareNoMemory(t *testing.T) {
 	for _, c := range trims {
-		want := simpleTrim(proto(c.p))
-		for i := range want.Points {
-			trim := globe.Trim(proto(c.p))
-			arms := trim.Points[i].Arms
-			for j := range arms[:cap(arms)] {
-				arms[:cap(arms)][j] = api.Arm{Label: "spoiled"}
-			}
-			trim.Points[i].Arms = append(arms, api.Arm{Label: "added"})
-			for k := range want.Points {
-				if k != i && !slices.Equal(trim.Points[k].Arms, want.Points[k].Arms) {
-					t.Fatalf("P0.4: points %d and %d of the Trim of %s share memory", i, k, c.p)
-				}
-			}
+		if !sketch.ApartProtocol(globe.Trim(proto(c.p))) {
+			t.Errorf("P0.4: points of the Trim of %s share memory", c.p)
 		}
 	}
 }

@@ -1,12 +1,12 @@
 package project_test
 
 import (
-	"slices"
 	"strings"
 	"testing"
 
 	"repartee/api"
 	"repartee/project"
+	"repartee/sketch"
 )
 
 func TestAll(t *testing.T) {
@@ -30,7 +30,7 @@ func TestAll(t *testing.T) {
 			continue
 		}
 		for i, role := range p.Roles {
-			if !equalTypes(got[i], local("p."+role, c.want[i])) {
+			if !sketch.SameLocal(got[i], sketch.Local("p."+role, c.want[i])) {
 				t.Errorf("P8.2: All(%v) has %v for %s, want %s", p, got[i], role, c.want[i])
 			}
 		}
@@ -108,41 +108,18 @@ func allTexts() []string {
 	return l
 }
 
-// roomy is p with memory beyond its roles, its points and the arms of each, in which there is something that would count if it were read.
-func roomy(p api.Protocol) api.Protocol {
-	roles := append(slices.Clone(p.Roles), "beyond", "A", "beyond")
-	room := append(slices.Clone(p.Points), api.Point{From: "a", To: "beyond", Arms: []api.Arm{{Label: "beyond"}}}, api.Point{From: "c", To: "c"})
-	for i := range p.Points {
-		arms := append(slices.Clone(p.Points[i].Arms), api.Arm{Label: "beyond"}, api.Arm{Label: "x", Next: -1})
-		room[i].Arms = arms[:len(p.Points[i].Arms)]
-	}
-	p.Roles, p.Points = roles[:len(p.Roles)], room[:len(p.Points)]
-	return p
-}
-
-// beyond is what stands in the memory beyond the lists of a roomy protocol.
-func beyond(p api.Protocol) api.Protocol {
-	n := len(p.Points)
-	out := api.Protocol{Roles: slices.Clone(p.Roles[:len(p.Roles)+3][len(p.Roles):]), Points: slices.Clone(p.Points[:n+2][n:])}
-	for _, x := range p.Points {
-		k := len(x.Arms)
-		out.Points = append(out.Points, api.Point{Arms: slices.Clone(x.Arms[:k+2][k:])})
-	}
-	return out
-}
-
 func TestNothingBeyondAListIsReadOrWritten(t *testing.T) {
 	for _, text := range allTexts() {
-		p := roomy(proto(text))
-		before := beyond(p)
+		p := sketch.RoomyProtocol(proto(text))
+		before := sketch.BeyondProtocol(p)
 		check(t, p)
 		checkRole(t, p, "beyond")
-		if !equal(beyond(p), before) {
-			t.Errorf("P0.4: memory beyond the lists of %s was written: %v", text, beyond(p))
+		if !sketch.SameProtocol(sketch.BeyondProtocol(p), before) {
+			t.Errorf("P0.4: memory beyond the lists of %s was written: %v", text, sketch.BeyondProtocol(p))
 		}
 	}
 	// The point, the arms and the roles beyond are none.
-	next, arms, roles := roomy(proto("a-b!x>1 .")), roomy(proto("a-b!x>0")), roomy(rolesOf("a b", "a-b!x>0"))
+	next, arms, roles := sketch.RoomyProtocol(proto("a-b!x>1 .")), sketch.RoomyProtocol(proto("a-b!x>0")), sketch.RoomyProtocol(rolesOf("a b", "a-b!x>0"))
 	next.Points = next.Points[:1]
 	arms.Points[0].Arms = arms.Points[0].Arms[:0]
 	roles.Roles = roles.Roles[:1]
@@ -153,47 +130,30 @@ func TestNothingBeyondAListIsReadOrWritten(t *testing.T) {
 	}
 }
 
-// spoil writes to all memory of a local type, also to what an append would get.
-func spoil(l api.Local) {
-	for i := range l.Turns {
-		arms := l.Turns[i].Arms[:cap(l.Turns[i].Arms)]
-		for j := range arms {
-			arms[j] = api.Arm{Label: "spoiled", Next: -7}
-		}
-	}
-	all := l.Turns[:cap(l.Turns)]
-	for i := range all {
-		all[i] = api.Turn{Kind: 9, Peer: "spoiled"}
-	}
-}
-
 func TestResultsAreNewMemory(t *testing.T) {
 	for _, text := range allTexts() {
-		for _, p := range []api.Protocol{proto(text), roomy(proto(text))} {
-			before := copied(p)
+		for _, p := range []api.Protocol{proto(text), sketch.RoomyProtocol(proto(text))} {
+			before := sketch.CopyProtocol(p)
 			for i, role := range p.Roles {
 				want, _ := simpleRole(p, role)
 				one, _ := project.Role(p, role)
 				two, _ := project.Role(p, role)
 				all, _, _ := project.All(p)
 				all2, _, _ := project.All(p)
-				spoil(one)
+				sketch.SpoilLocal(one)
 				for j := range all {
 					if j != i {
-						spoil(all[j])
+						sketch.SpoilLocal(all[j])
 					}
 				}
-				if !equalTypes(two, want) || len(all) > i && !equalTypes(all[i], want) || len(all2) > i && !equalTypes(all2[i], want) {
+				if !sketch.SameLocal(two, want) || len(all) > i && !sketch.SameLocal(all[i], want) || len(all2) > i && !sketch.SameLocal(all2[i], want) {
 					t.Fatalf("P0.4: two results for %s share memory", text)
 				}
-				if !equal(p, before) {
+				if !sketch.SameProtocol(p, before) {
 					t.Fatalf("P0.4: a result shares its memory with the argument %s", text)
 				}
-				all = all[:cap(all)]
-				for j := range all {
-					all[j] = api.Local{Name: "spoiled"}
-				}
-				if len(all2) > i && !equalTypes(all2[i], want) {
+				sketch.SpoilList(all, api.Local{Name: "spoiled"})
+				if len(all2) > i && !sketch.SameLocal(all2[i], want) {
 					t.Fatalf("P0.4: two results of All for %s share memory", text)
 				}
 			}
@@ -201,23 +161,12 @@ func TestResultsAreNewMemory(t *testing.T) {
 	}
 }
 
-// No two turns of a projection share memory: an arm that is added to one, or changed in it, is in no other.
+// An arm that is added to one turn, or changed in it, is in no other.
 func TestTurnsOfAProjectionShareNoMemory(t *testing.T) {
 	for _, text := range append(allTexts(), "a-b!x>1,y>2 a-b!x>1,y>2 a-b!x>1,y>2") {
 		for _, role := range []string{"a", "b", "c"} {
-			want, _ := simpleRole(proto(text), role)
-			for i := range want.Turns {
-				got, _ := project.Role(proto(text), role)
-				arms := got.Turns[i].Arms
-				for j := range arms[:cap(arms)] {
-					arms[:cap(arms)][j] = api.Arm{Label: "spoiled"}
-				}
-				got.Turns[i].Arms = append(arms, api.Arm{Label: "added"})
-				for k := range want.Turns {
-					if k != i && !slices.Equal(got.Turns[k].Arms, want.Turns[k].Arms) {
-						t.Fatalf("P0.4: turns %d and %d of the projection of %s to %s share memory", i, k, text, role)
-					}
-				}
+			if l, _ := project.Role(proto(text), role); !sketch.ApartLocal(l) {
+				t.Errorf("P0.4: turns of the projection of %s to %s share memory", text, role)
 			}
 		}
 	}
@@ -237,7 +186,7 @@ func TestNilAndEmptyListsAreTheSame(t *testing.T) {
 		for _, role := range p.Roles {
 			a, e := project.Role(proto(text), role)
 			b, f := project.Role(p, role)
-			if e != f || !equalTypes(a, b) {
+			if e != f || !sketch.SameLocal(a, b) {
 				t.Errorf("P0.4: Role tells nil from an empty list in %s", text)
 			}
 		}

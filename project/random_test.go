@@ -8,6 +8,7 @@ import (
 	"repartee/api"
 	"repartee/globe"
 	"repartee/project"
+	"repartee/sketch"
 )
 
 // smallProtocols are all protocols of n points that are the end, or one of these with the arm x or the arms x and y.
@@ -206,7 +207,7 @@ func TestTheOrderOfPointsAndArmsIsNoMatter(t *testing.T) {
 	r := rand.New(rand.NewSource(9))
 	for i := range 2000 {
 		p := randomProtocol(r, 1+i%api.MaxPoints)
-		q := copied(p)
+		q := sketch.CopyProtocol(p)
 		to := []int{0}
 		for _, k := range r.Perm(len(p.Points) - 1) {
 			to = append(to, k+1)
@@ -222,7 +223,7 @@ func TestTheOrderOfPointsAndArmsIsNoMatter(t *testing.T) {
 		for _, role := range p.Roles {
 			a, e := project.Role(p, role)
 			b, f := project.Role(q, role)
-			if e != f || !equalTypes(a, b) {
+			if e != f || !sketch.SameLocal(a, b) {
 				t.Fatalf("P8.1: to %s, %v is %v, %d, and %v is %v, %d", role, p, a, e, q, b, f)
 			}
 		}

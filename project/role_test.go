@@ -9,6 +9,7 @@ import (
 	"repartee/api"
 	"repartee/globe"
 	"repartee/project"
+	"repartee/sketch"
 )
 
 // is checks that the projection of p to the role has these turns, or that it is refused with this error.
@@ -16,9 +17,9 @@ func is(t *testing.T, p api.Protocol, role, want string, err api.Errno) {
 	t.Helper()
 	var l api.Local
 	if err == api.OK {
-		l = local(p.Name+"."+role, want)
+		l = sketch.Local(p.Name+"."+role, want)
 	}
-	if got, e := project.Role(p, role); e != err || !equalTypes(got, l) {
+	if got, e := project.Role(p, role); e != err || !sketch.SameLocal(got, l) {
 		t.Errorf("P8.1: Role(%v, %q) = %v, %d, want %s, %d", p, role, got, e, want, err)
 	}
 	check(t, p)
@@ -301,7 +302,7 @@ func TestRoleOfInvalidProtocols(t *testing.T) {
 		bad = append(bad, proto(points))
 	}
 	for _, name := range []string{"", "P", "end", "p.q", "abcdefghijklm"} {
-		p := copied(good)
+		p := sketch.CopyProtocol(good)
 		p.Name = name
 		bad = append(bad, p)
 	}
@@ -443,7 +444,7 @@ func TestRoleOfMaxTurnsAndOtherFaults(t *testing.T) {
 		p := counter(api.Recv, 5, c.way)
 		one := len(p.Points)
 		arms := strings.NewReplacer("ONE", strconv.Itoa(one), "TWO", strconv.Itoa(one+3)).Replace(c.arms)
-		p.Points[6].Arms = append(p.Points[6].Arms, armsOf(arms)...)
+		p.Points[6].Arms = append(p.Points[6].Arms, sketch.Arms(arms)...)
 		p.Points = append(p.Points, proto(numbered(c.one, one)+" "+numbered(c.two, one+3)).Points...)
 		if _, e := project.Role(p, "c"); e != c.want || !globe.May(p) {
 			t.Errorf("P8.1: with a way of %d and the arms %s: %d, want %d", c.way, c.arms, e, c.want)

@@ -3,89 +3,21 @@ package project_test
 import (
 	"regexp"
 	"slices"
-	"strconv"
 	"strings"
 	"testing"
 
 	"repartee/api"
 	"repartee/globe"
 	"repartee/project"
+	"repartee/sketch"
 	"repartee/turns"
 )
 
-// proto reads a protocol of the roles a, b and c: its points separated by blanks, each a dot (the end), or From, -, To, ! and arms separated by commas; an arm is its label, perhaps a colon, a digit for the Kind that it carries and the Name, and behind > the Next.
+// proto reads a protocol of the roles a, b and c.
 func proto(text string) api.Protocol { return rolesOf("a b c", text) }
 
 // rolesOf reads a protocol of these roles.
-func rolesOf(roles, text string) api.Protocol {
-	p := api.Protocol{Name: "p", Roles: strings.Fields(roles)}
-	for _, word := range strings.Fields(text) {
-		p.Points = append(p.Points, pointed(word))
-	}
-	return p
-}
-
-func pointed(text string) api.Point {
-	who, arms, _ := strings.Cut(text, "!")
-	if who == "." {
-		return api.Point{}
-	}
-	from, to, _ := strings.Cut(who, "-")
-	return api.Point{From: from, To: to, Arms: armsOf(arms)}
-}
-
-func armsOf(text string) []api.Arm {
-	var l []api.Arm
-	for _, a := range strings.Split(text, ",") {
-		what, next, _ := strings.Cut(a, ">")
-		label, carries, _ := strings.Cut(what, ":")
-		arm := api.Arm{Label: label}
-		arm.Next, _ = strconv.Atoi(next)
-		if carries != "" {
-			arm.Carries = api.Carries{Kind: int(carries[0] - '0'), Name: carries[1:]}
-		}
-		l = append(l, arm)
-	}
-	return l
-}
-
-// local reads a local type with this Name: its turns separated by blanks, each a dot (the end), or the Peer, ! (Send) or ? (Recv) and arms as in a protocol.
-func local(name, text string) api.Local {
-	l := api.Local{Name: name}
-	for _, word := range strings.Fields(text) {
-		t := api.Turn{Kind: api.End}
-		if peer, arms, is := strings.Cut(word, "!"); is {
-			t = api.Turn{Kind: api.Send, Peer: peer, Arms: armsOf(arms)}
-		} else if peer, arms, is := strings.Cut(word, "?"); is {
-			t = api.Turn{Kind: api.Recv, Peer: peer, Arms: armsOf(arms)}
-		}
-		l.Turns = append(l.Turns, t)
-	}
-	return l
-}
-
-// copied is p in memory of its own.
-func copied(p api.Protocol) api.Protocol {
-	p.Roles, p.Points = slices.Clone(p.Roles), slices.Clone(p.Points)
-	for i := range p.Points {
-		p.Points[i].Arms = slices.Clone(p.Points[i].Arms)
-	}
-	return p
-}
-
-// equal reports whether all fields of a and b are equal.
-func equal(a, b api.Protocol) bool {
-	return a.Name == b.Name && slices.Equal(a.Roles, b.Roles) && slices.EqualFunc(a.Points, b.Points, func(x, y api.Point) bool {
-		return x.From == y.From && x.To == y.To && slices.Equal(x.Arms, y.Arms)
-	})
-}
-
-// equalTypes reports whether all fields of a and b are equal.
-func equalTypes(a, b api.Local) bool {
-	return a.Name == b.Name && slices.EqualFunc(a.Turns, b.Turns, func(x, y api.Turn) bool {
-		return x.Kind == y.Kind && x.Peer == y.Peer && slices.Equal(x.Arms, y.Arms)
-	})
-}
+func rolesOf(roles, text string) api.Protocol { return sketch.Protocol("p", roles, text) }
 
 // simple projects a protocol to a role by what chapter 8 says, without the packages below and with sets as bits of a number.
 type simple struct {
@@ -265,15 +197,15 @@ func simpleRole(p api.Protocol, role string) (api.Local, api.Errno) {
 // checkRole holds what Role says of p and the role against simpleRole, and checks that p stays as it is.
 func checkRole(t *testing.T, p api.Protocol, role string) (api.Local, api.Errno) {
 	t.Helper()
-	before := copied(p)
+	before := sketch.CopyProtocol(p)
 	want, wantErr := simpleRole(p, role)
 	for range 2 {
 		got, e := project.Role(p, role)
-		if e != wantErr || !equalTypes(got, want) {
+		if e != wantErr || !sketch.SameLocal(got, want) {
 			t.Fatalf("P8.1: Role(%v, %q) = %v, %d, want %v, %d", p, role, got, e, want, wantErr)
 		}
 	}
-	if !equal(p, before) {
+	if !sketch.SameProtocol(p, before) {
 		t.Fatalf("P0.4: %v was changed to %v", before, p)
 	}
 	return want, wantErr
@@ -303,14 +235,14 @@ func check(t *testing.T, p api.Protocol) ([]api.Local, api.Errno) {
 	if err != api.OK {
 		want = nil
 	}
-	before := copied(p)
+	before := sketch.CopyProtocol(p)
 	for range 2 {
 		got, i, e := project.All(p)
-		if i != at || e != err || !slices.EqualFunc(got, want, equalTypes) {
+		if i != at || e != err || !slices.EqualFunc(got, want, sketch.SameLocal) {
 			t.Fatalf("P8.2: All(%v) = %v, %d, %d, want %v, %d, %d", p, got, i, e, want, at, err)
 		}
 	}
-	if !equal(p, before) {
+	if !sketch.SameProtocol(p, before) {
 		t.Fatalf("P0.4: %v was changed to %v", before, p)
 	}
 	if globe.May(p) {
@@ -324,7 +256,7 @@ var labelShape = regexp.MustCompile(`\A[a-z][a-z0-9]{0,11}\z`)
 // checkType checks what P8.3 says of a projection, with the rules of layer 6 and without.
 func checkType(t *testing.T, p api.Protocol, role string, l api.Local) {
 	t.Helper()
-	if !turns.May(l) || !equalTypes(turns.Trim(l), l) {
+	if !turns.May(l) || !sketch.SameLocal(turns.Trim(l), l) {
 		t.Fatalf("P8.3: the projection of %v to %s is not valid, or not its own Trim: %v", p, role, l)
 	}
 	if l.Name != p.Name+"."+role || len(l.Turns) < 1 || len(l.Turns) > 40 {
@@ -358,7 +290,7 @@ func checkTrimmed(t *testing.T, p api.Protocol) {
 	for _, role := range p.Roles {
 		a, e := project.Role(p, role)
 		b, f := project.Role(trim, role)
-		if e != f || !equalTypes(a, b) {
+		if e != f || !sketch.SameLocal(a, b) {
 			t.Fatalf("P8.3: to %s, %v is %v, %d, and its Trim is %v, %d", role, p, a, e, b, f)
 		}
 	}

@@ -7,12 +7,13 @@ import (
 	"testing"
 
 	"repartee/api"
+	"repartee/sketch"
 	"repartee/turns"
 )
 
 var (
-	goodNames = []string{"a", "z", "b", "x", "seller2", "z9", "a0b1", "abcdefghijkl", "a00000000000", "ends", "end2", "main"}
-	badNames  = []string{"", "end", "to", "protocol", "A", "1", "2a", "aB", "a_b", "a b", " a", "a ", "a\n", "a\x00", "a.b", ".a", "a.", "é", "a\xff", "abcdefghijklm", "a000000000000", strings.Repeat("a", 1000)}
+	goodNames = sketch.Names()
+	badNames  = sketch.NoNames()
 	oddInts   = []int{math.MinInt, -1 << 32, -2, -1, 3, 4, 5, 6, 7, 256, 1 << 32, 1<<32 + 1, 1<<32 + 2, math.MaxInt}
 )
 
@@ -259,11 +260,11 @@ func TestMayOfOneWrongField(t *testing.T) {
 		func(x *api.Turn) { x.Kind, x.Peer, x.Arms = 0, "", manyArms(1) },
 	}
 	for _, s := range []string{"A>0", ">0", "a>6", "a>-1", "a:6>0", "a:/>0", "a:1n>0", "a:5>0", "a:5p.>0", "a:5.r>0", "a:5p.r.s>0", "p>0"} {
-		changes = append(changes, func(x *api.Turn) { x.Kind, x.Peer, x.Arms = 2, "b", []api.Arm{{Label: "p"}, armed(s)} })
+		changes = append(changes, func(x *api.Turn) { x.Kind, x.Peer, x.Arms = 2, "b", []api.Arm{{Label: "p"}, sketch.Arms(s)[0]} })
 	}
 	for i := range good.Turns {
 		for j, change := range changes {
-			l := copied(good)
+			l := sketch.CopyLocal(good)
 			change(&l.Turns[i])
 			if checkAll(t, l, someWays) {
 				t.Fatalf("P6.1: turn %d, change %d: valid: %v", i, j, l)

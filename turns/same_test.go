@@ -7,6 +7,7 @@ import (
 	"testing"
 
 	"repartee/api"
+	"repartee/sketch"
 	"repartee/turns"
 )
 
@@ -90,11 +91,11 @@ func TestWalkOfALongWay(t *testing.T) {
 // checkSame checks Same of a and b, and of b and a, and that they stay as they are.
 func checkSame(t *testing.T, a, b api.Local, want bool) {
 	t.Helper()
-	a2, b2 := copied(a), copied(b)
+	a2, b2 := sketch.CopyLocal(a), sketch.CopyLocal(b)
 	if turns.Same(a, b) != want || turns.Same(b, a) != want {
 		t.Fatalf("P6.3: Same(%v, %v) = %v", a, b, !want)
 	}
-	if !equal(a, a2) || !equal(b, b2) {
+	if !sketch.SameLocal(a, a2) || !sketch.SameLocal(b, b2) {
 		t.Fatalf("P0.4: Same changed %v to %v, or %v to %v", a2, a, b2, b)
 	}
 }
@@ -297,7 +298,7 @@ func TestSameOfShuffledTypes(t *testing.T) {
 		b := shuffled(r, a)
 		checkSame(t, a, b, true)
 		x, y := turns.Trim(a), turns.Trim(b)
-		if y.Name = x.Name; !equal(x, y) {
+		if y.Name = x.Name; !sketch.SameLocal(x, y) {
 			t.Fatalf("P6.2: the Trims of %v and %v differ: %v and %v", a, b, x, y)
 		}
 		if !slices.Equal(turns.Peers(a), turns.Peers(b)) {
@@ -311,7 +312,7 @@ func TestSameOfTypesThatDifferInOneField(t *testing.T) {
 	r := rand.New(rand.NewSource(8))
 	for i := range 2000 {
 		a := randomType(r, 1+i%12)
-		b := copied(a)
+		b := sketch.CopyLocal(a)
 		at := r.Intn(len(b.Turns))
 		x := &b.Turns[at]
 		if len(x.Arms) == 0 {

@@ -3,57 +3,17 @@ package turns_test
 import (
 	"regexp"
 	"slices"
-	"strconv"
 	"strings"
 	"testing"
 
 	"repartee/api"
 	"repartee/names"
+	"repartee/sketch"
 	"repartee/turns"
 )
 
-// typed reads a local type: its turns separated by blanks, each a dot (End), or a peer, ! (Send) or ? (Recv), and arms separated by commas; an arm is its label, perhaps a colon, a digit for the Kind that it carries and the Name, and behind > the Next.
-func typed(text string) api.Local {
-	var l api.Local
-	for _, word := range strings.Fields(text) {
-		var x api.Turn
-		if i := strings.IndexAny(word, "!?"); i >= 0 {
-			x = api.Turn{Kind: 1 + strings.Index("!?", word[i:i+1]), Peer: word[:i]}
-			for _, a := range strings.Split(word[i+1:], ",") {
-				x.Arms = append(x.Arms, armed(a))
-			}
-		}
-		l.Turns = append(l.Turns, x)
-	}
-	return l
-}
-
-func armed(text string) api.Arm {
-	what, next, _ := strings.Cut(text, ">")
-	label, carries, _ := strings.Cut(what, ":")
-	a := api.Arm{Label: label}
-	a.Next, _ = strconv.Atoi(next)
-	if carries != "" {
-		a.Carries = api.Carries{Kind: int(carries[0] - '0'), Name: carries[1:]}
-	}
-	return a
-}
-
-// copied is l in memory of its own.
-func copied(l api.Local) api.Local {
-	l.Turns = slices.Clone(l.Turns)
-	for i := range l.Turns {
-		l.Turns[i].Arms = slices.Clone(l.Turns[i].Arms)
-	}
-	return l
-}
-
-// equal reports whether all fields of a and b are equal.
-func equal(a, b api.Local) bool {
-	return a.Name == b.Name && slices.EqualFunc(a.Turns, b.Turns, func(x, y api.Turn) bool {
-		return x.Kind == y.Kind && x.Peer == y.Peer && slices.Equal(x.Arms, y.Arms)
-	})
-}
+// typed reads a local type without a Name.
+func typed(text string) api.Local { return sketch.Local("", text) }
 
 var shape = regexp.MustCompile(`\A[a-z][a-z0-9]{0,11}\z`)
 
@@ -232,7 +192,7 @@ func compare(t *testing.T, l api.Local, ways [][]string, got, want answers) {
 	if !slices.Equal(got.reach, want.reach) {
 		t.Fatalf("P6.2: Reach(%v) = %v, want %v", l, got.reach, want.reach)
 	}
-	if !equal(got.trim, want.trim) {
+	if !sketch.SameLocal(got.trim, want.trim) {
 		t.Fatalf("P6.2: Trim(%v) = %v, want %v", l, got.trim, want.trim)
 	}
 	if !slices.Equal(got.peers, want.peers) {
@@ -254,7 +214,7 @@ var someWays = [][]string{nil, {}, {""}, {"a"}, {"b"}, {"x"}, {"a", "a"}, {"a", 
 // checkAll holds what every function says of l against the simple functions, twice, and checks that l stays as it is and that its Trim is as P6.4 says. It returns whether l is valid.
 func checkAll(t *testing.T, l api.Local, ways [][]string) bool {
 	t.Helper()
-	before, waysBefore := copied(l), make([][]string, len(ways))
+	before, waysBefore := sketch.CopyLocal(l), make([][]string, len(ways))
 	for i, way := range ways {
 		waysBefore[i] = slices.Clone(way)
 	}
@@ -262,7 +222,7 @@ func checkAll(t *testing.T, l api.Local, ways [][]string) bool {
 	for range 2 {
 		compare(t, l, ways, ask(l, ways), want)
 	}
-	if !equal(l, before) || !slices.EqualFunc(ways, waysBefore, slices.Equal[[]string]) {
+	if !sketch.SameLocal(l, before) || !slices.EqualFunc(ways, waysBefore, slices.Equal[[]string]) {
 		t.Fatalf("P0.4: %v was changed to %v, or %q to %q", before, l, waysBefore, ways)
 	}
 	if want.may {
@@ -278,7 +238,7 @@ func checkTrim(t *testing.T, l api.Local, ways [][]string) {
 	if !turns.May(x) || !simpleMay(x) {
 		t.Fatalf("P6.4: the Trim of %v is not valid: %v", l, x)
 	}
-	if y := turns.Trim(x); !equal(x, y) {
+	if y := turns.Trim(x); !sketch.SameLocal(x, y) {
 		t.Fatalf("P6.4: the Trim of %v is %v, and of that %v", l, x, y)
 	}
 	if !turns.Same(l, x) || !turns.Same(x, l) {

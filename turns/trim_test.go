@@ -7,6 +7,7 @@ import (
 	"testing"
 
 	"repartee/api"
+	"repartee/sketch"
 	"repartee/turns"
 )
 
@@ -52,32 +53,22 @@ var trims = []struct{ l, reach, trim, peers string }{
 	{"b9!a>1 b10?a>2 b!a>3 ba!a>4 .", "0 1 2 3 4", "b9!a>1 b10?a>2 b!a>3 ba!a>4 .", "b b10 b9 ba"},
 }
 
-// numbers reads numbers separated by blanks.
-func numbers(text string) []int {
-	var l []int
-	for _, s := range strings.Fields(text) {
-		n, _ := strconv.Atoi(s)
-		l = append(l, n)
-	}
-	return l
-}
-
 func TestReachTrimAndPeers(t *testing.T) {
 	for _, c := range trims {
 		l := typed(c.l)
 		l.Name = "some"
 		trim := typed(c.trim)
 		trim.Name = "some"
-		if got := turns.Reach(l); !slices.Equal(got, numbers(c.reach)) {
+		if got := turns.Reach(l); !slices.Equal(got, sketch.Numbers(c.reach)) {
 			t.Errorf("P6.2: Reach of %s = %v, want %s", c.l, got, c.reach)
 		}
-		if got := turns.Trim(l); !equal(got, trim) {
+		if got := turns.Trim(l); !sketch.SameLocal(got, trim) {
 			t.Errorf("P6.2: Trim of %s = %v, want %v", c.l, got, trim)
 		}
 		if got := turns.Peers(l); !slices.Equal(got, strings.Fields(c.peers)) {
 			t.Errorf("P6.2: Peers of %s = %v, want %s", c.l, got, c.peers)
 		}
-		if got := turns.Trim(trim); !equal(got, trim) {
+		if got := turns.Trim(trim); !sketch.SameLocal(got, trim) {
 			t.Errorf("P6.4: Trim of the Trim %s = %v", c.trim, got)
 		}
 		checkAll(t, l, someWays)
@@ -119,58 +110,36 @@ func TestTrimOfAWideType(t *testing.T) {
 			l.Turns[i].Arms = append(l.Turns[i].Arms, arm)
 		}
 	}
-	want := numbers("0 6 5 4 3 2 1 36 35 34 33 32 31 30 29 28 27 26 25 24 23 22 21 20 19 18 17 16 15 14 13 12 11 10 9 8 7")
+	want := sketch.Numbers("0 6 5 4 3 2 1 36 35 34 33 32 31 30 29 28 27 26 25 24 23 22 21 20 19 18 17 16 15 14 13 12 11 10 9 8 7")
 	if got := turns.Reach(l); !slices.Equal(got, want) {
 		t.Errorf("P6.2: Reach of a wide type = %v, want %v", got, want)
 	}
 	checkAll(t, l, [][]string{{"a"}, {"f", "f"}, {"a", "f"}, {"f", "a"}, {"g"}, {"b", "c", "d"}})
 }
 
-// roomy is l with memory beyond its turns and the arms of each, in which there is something that would count if it were read.
-func roomy(l api.Local) api.Local {
-	room := append(slices.Clone(l.Turns), api.Turn{Kind: api.Send, Peer: "beyond", Arms: []api.Arm{{Label: "beyond"}}}, api.Turn{Kind: 9})
-	for i := range l.Turns {
-		arms := append(slices.Clone(l.Turns[i].Arms), api.Arm{Label: "beyond"}, api.Arm{Label: "a", Next: -1})
-		room[i].Arms = arms[:len(l.Turns[i].Arms)]
-	}
-	l.Turns = room[:len(l.Turns)]
-	return l
-}
-
-// beyond is what stands in the memory beyond the turns and the arms of a roomy type.
-func beyond(l api.Local) api.Local {
-	n := len(l.Turns)
-	out := api.Local{Turns: slices.Clone(l.Turns[:n+2][n:])}
-	for _, x := range l.Turns {
-		k := len(x.Arms)
-		out.Turns = append(out.Turns, api.Turn{Arms: slices.Clone(x.Arms[:k+2][k:])})
-	}
-	return out
-}
-
 func TestNothingBeyondAListIsReadOrWritten(t *testing.T) {
 	ways := [][]string{nil, {"a"}, {"a", "a"}, {"beyond"}, {"a", "beyond"}, {"x", "a"}}
 	for _, c := range trims {
 		l := typed(c.l)
-		r := roomy(l)
-		before := beyond(r)
+		r := sketch.RoomyLocal(l)
+		before := sketch.BeyondLocal(r)
 		compare(t, r, ways, ask(r, ways), expected(l, ways))
 		if !turns.Same(r, l) || !turns.Same(l, r) {
 			t.Errorf("P0.4: Same reads beyond the lists of %s", c.l)
 		}
-		if !equal(beyond(r), before) {
-			t.Errorf("P0.4: memory beyond the lists of %s was written: %v", c.l, beyond(r))
+		if !sketch.SameLocal(sketch.BeyondLocal(r), before) {
+			t.Errorf("P0.4: memory beyond the lists of %s was written: %v", c.l, sketch.BeyondLocal(r))
 		}
 	}
 	// The turns and the arms beyond are none, so a Next to them is wrong and there are no arms.
-	next := roomy(typed("b!a>1 ."))
+	next := sketch.RoomyLocal(typed("b!a>1 ."))
 	next.Turns = next.Turns[:1]
-	arms := roomy(typed("b!a>0"))
+	arms := sketch.RoomyLocal(typed("b!a>0"))
 	arms.Turns[0].Arms = arms.Turns[0].Arms[:0]
 	if turns.May(next) || turns.May(arms) {
 		t.Error("P0.4: May reads beyond a list")
 	}
-	none := roomy(api.Local{})
+	none := sketch.RoomyLocal(api.Local{})
 	if turns.May(none) || len(turns.Trim(none).Turns) > 0 {
 		t.Error("P0.4: turns beyond an empty list were read")
 	}
@@ -180,59 +149,30 @@ func TestNothingBeyondAListIsReadOrWritten(t *testing.T) {
 	}
 }
 
-// spoil writes to all memory of l, also to what an append would get.
-func spoil(l api.Local) {
-	for i := range l.Turns {
-		arms := l.Turns[i].Arms[:cap(l.Turns[i].Arms)]
-		for j := range arms {
-			arms[j] = api.Arm{Label: "spoiled", Next: -7}
-		}
-	}
-	l.Turns = l.Turns[:cap(l.Turns)]
-	for i := range l.Turns {
-		l.Turns[i] = api.Turn{Kind: 7, Peer: "spoiled"}
-	}
-}
-
 func TestResultsAreNewMemory(t *testing.T) {
 	for _, c := range trims {
 		l := typed(c.l)
-		for _, arg := range []api.Local{l, roomy(l), turns.Trim(l)} {
-			before := copied(arg)
+		for _, arg := range []api.Local{l, sketch.RoomyLocal(l), turns.Trim(l)} {
+			before := sketch.CopyLocal(arg)
 			reach, peers, trim, other := turns.Reach(arg), turns.Peers(arg), turns.Trim(arg), turns.Trim(arg)
-			for i := range reach[:cap(reach)] {
-				reach[:cap(reach)][i] = -7
-			}
-			for i := range peers[:cap(peers)] {
-				peers[:cap(peers)][i] = "spoiled"
-			}
-			spoil(trim)
-			if !equal(arg, before) {
+			sketch.SpoilList(reach, -7)
+			sketch.SpoilList(peers, "spoiled")
+			sketch.SpoilLocal(trim)
+			if !sketch.SameLocal(arg, before) {
 				t.Fatalf("P0.4: a result shares its memory with the argument %s", c.l)
 			}
-			if !equal(other, simpleTrim(before)) {
+			if !sketch.SameLocal(other, simpleTrim(before)) {
 				t.Fatalf("P0.4: two Trims of %s share memory", c.l)
 			}
 		}
 	}
 }
 
-// No two turns of a Trim share memory: an arm that is added to one, or changed in it, is in no other.
+// An arm that is added to one turn, or changed in it, is in no other.
 func TestTurnsOfATrimShareNoMemory(t *testing.T) {
 	for _, c := range trims {
-		want := simpleTrim(typed(c.l))
-		for i := range want.Turns {
-			trim := turns.Trim(typed(c.l))
-			arms := trim.Turns[i].Arms
-			for j := range arms[:cap(arms)] {
-				arms[:cap(arms)][j] = api.Arm{Label: "spoiled"}
-			}
-			trim.Turns[i].Arms = append(arms, api.Arm{Label: "added"})
-			for k := range want.Turns {
-				if k != i && !slices.Equal(trim.Turns[k].Arms, want.Turns[k].Arms) {
-					t.Fatalf("P0.4: turns %d and %d of the Trim of %s share memory", i, k, c.l)
-				}
-			}
+		if !sketch.ApartLocal(turns.Trim(typed(c.l))) {
+			t.Errorf("P0.4: turns of the Trim of %s share memory", c.l)
 		}
 	}
 }

@@ -70,10 +70,7 @@ func TestResultsAreNewMemory(t *testing.T) {
 				want = slices.Clone(want)
 				one, _ := under.Pairs(b, x, 0)
 				two, _ := under.Pairs(b, x, 0)
-				one = one[:cap(one)]
-				for i := range one {
-					one[i] = [2]int{-7, -7}
-				}
+				sketch.SpoilList(one, [2]int{-7, -7})
 				if !slices.Equal(two, want) {
 					t.Errorf("P0.4: two results for nodes %d and 0 of %v share memory", x, plain)
 				}
