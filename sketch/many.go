@@ -3,6 +3,7 @@ package sketch
 import (
 	"math"
 	"slices"
+	"strings"
 
 	"repartee/api"
 )
@@ -40,6 +41,19 @@ func plainEdges(n int, labels []string) [][]api.Edge {
 	return all
 }
 
+// SmallNodes returns all nodes of a book of two nodes that end, or have one of these peers and one or both of the labels x and y.
+func SmallNodes(peers ...string) []api.Node {
+	l := []api.Node{{}}
+	for _, sign := range []string{"!", "?"} {
+		for _, peer := range peers {
+			for _, arms := range strings.Fields("x>0 x>1 y>0 y>1 x>0,y>0 x>0,y>1 x>1,y>0 x>1,y>1") {
+				l = append(l, Node(peer+sign+arms))
+			}
+		}
+	}
+	return l
+}
+
 // To returns a node that sends, with these labels, each with this Next, and with a Chan at this At if it is not negative.
 func To(next, at int, labels ...string) api.Node {
 	n := api.Node{Kind: api.Send, Peer: "b"}
@@ -66,6 +80,26 @@ func Made(n int, build func(i int) api.Node) api.Book {
 func OddIndices(b api.Book) []int {
 	n := len(b.Nodes)
 	return []int{-1, n, n + 1, -2, -n - 1, n + 400, 1 << 31, 1 << 32, 1<<32 + 1, -1 << 32, math.MinInt, math.MaxInt}
+}
+
+// Projectable returns protocols of two to five roles that are projectable to every role.
+func Projectable() []api.Protocol {
+	return []api.Protocol{
+		Protocol("p", "a b", "."),
+		Protocol("p", "a b", "a-b!x>1 ."),
+		Protocol("p", "a b", "a-b!x>0"),
+		Protocol("p", "a b", "a-b!x>1,y>2 b-a!x>0 ."),
+		Protocol("p", "b a", "a-b!x>1,y>2 b-a!x>1,z>0 ."),
+		Protocol("p", "a b", "a-b!x>1 b-a!y>2,w>3 a-b!x>0 ."),
+		Protocol("p", "a b c", "a-b!x>1 b-c!y>2 c-a!z>0"),
+		Protocol("p", "a b c", "a-b!x>1,y>2 b-c!x>3 b-c!y>3 ."),
+		Protocol("p", "c a b", "a-b!x>1,y>2 b-c!x>0 b-c!y>3 ."),
+		Protocol("p", "a b c", "a-b!x>1,y>2 a-c!x>3 a-c!y>4 b-c!p>0 c-b!q>5 ."),
+		Protocol("p", "a b c d", "a-b!x>1 c-d!x>2 b-a!y>3 d-c!y>4 ."),
+		Protocol("p", "a b c d e", "a-b!x>1 b-c!y>2 c-d!z>3 d-e!w>4 e-a!v>0"),
+		Protocol("p", "a b c d e", "a-b!l>1,r>2 b-c!x>3 b-c!y>4 c-d!p>5 c-d!q>5 d-e!z>0"),
+		Protocol("p", "e d c b a", "a-b!x>1 c-d!x>2 b-a!y>3 d-c!y>4 a-e!l>5,r>6 e-d!z>7 e-d!w>7 ."),
+	}
 }
 
 // Invalid returns books of which each hurts one condition of chapter 9: as they are, with names, and ahead of nodes that are valid.

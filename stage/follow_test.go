@@ -88,24 +88,6 @@ func TestSearches(t *testing.T) {
 	}
 }
 
-// protocols are projectable to every role.
-var protocols = []struct{ roles, points string }{
-	{"a b", "."},
-	{"a b", "a-b!x>1 ."},
-	{"a b", "a-b!x>0"},
-	{"a b", "a-b!x>1,y>2 b-a!x>0 ."},
-	{"b a", "a-b!x>1,y>2 b-a!x>1,z>0 ."},
-	{"a b", "a-b!x>1 b-a!y>2,w>3 a-b!x>0 ."},
-	{"a b c", "a-b!x>1 b-c!y>2 c-a!z>0"},
-	{"a b c", "a-b!x>1,y>2 b-c!x>3 b-c!y>3 ."},
-	{"c a b", "a-b!x>1,y>2 b-c!x>0 b-c!y>3 ."},
-	{"a b c", "a-b!x>1,y>2 a-c!x>3 a-c!y>4 b-c!p>0 c-b!q>5 ."},
-	{"a b c d", "a-b!x>1 c-d!x>2 b-a!y>3 d-c!y>4 ."},
-	{"a b c d e", "a-b!x>1 b-c!y>2 c-d!z>3 d-e!w>4 e-a!v>0"},
-	{"a b c d e", "a-b!l>1,r>2 b-c!x>3 b-c!y>4 c-d!p>5 c-d!q>5 d-e!z>0"},
-	{"e d c b a", "a-b!x>1 c-d!x>2 b-a!y>3 d-c!y>4 a-e!l>5,r>6 e-d!z>7 e-d!w>7 ."},
-}
-
 // session is a protocol with the book of its local types and the stage with which it begins.
 func session(t *testing.T, p api.Protocol) (api.Book, api.Stage) {
 	t.Helper()
@@ -173,8 +155,7 @@ func checkWalk(t *testing.T, r *rand.Rand, p api.Protocol, most int) {
 
 func TestProjectionsAreNeverStuck(t *testing.T) {
 	r := rand.New(rand.NewSource(16))
-	for _, c := range protocols {
-		p := sketch.Protocol("p", c.roles, c.points)
+	for _, p := range sketch.Projectable() {
 		checkProjected(t, p, 300)
 		for range 10 {
 			checkWalk(t, r, p, 30)
@@ -186,18 +167,7 @@ func TestProjectionsAreNeverStuck(t *testing.T) {
 func TestRandomProtocolsOfTwoRoles(t *testing.T) {
 	r := rand.New(rand.NewSource(17))
 	for range 200 {
-		p := api.Protocol{Name: "p", Roles: pick(r, []string{"a", "b"}, []string{"b", "a"}), Points: make([]api.Point, 1+r.Intn(8))}
-		for i := range p.Points {
-			if r.Intn(5) == 0 {
-				continue
-			}
-			k := r.Intn(2)
-			x := api.Point{From: p.Roles[k], To: p.Roles[1-k]}
-			for _, j := range r.Perm(4)[:1+r.Intn(3)] {
-				x.Arms = append(x.Arms, api.Arm{Label: []string{"x", "y", "z", "w"}[j], Next: r.Intn(len(p.Points))})
-			}
-			p.Points[i] = x
-		}
+		p := sketch.Draw(r.Intn).Protocol([]string{"a", "b"}, 8)
 		checkProjected(t, p, 60)
 		checkWalk(t, r, p, 20)
 	}

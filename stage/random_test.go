@@ -3,7 +3,6 @@ package stage_test
 import (
 	"math/rand"
 	"slices"
-	"strings"
 	"testing"
 
 	"repartee/api"
@@ -11,24 +10,11 @@ import (
 	"repartee/stage"
 )
 
-// smallNodes are all nodes of a book of two nodes that end, or have one of the peers and one or both of the labels.
-func smallNodes(peers ...string) []api.Node {
-	l := []api.Node{{}}
-	for _, sign := range []string{"!", "?"} {
-		for _, peer := range peers {
-			for _, arms := range strings.Fields("x>0 x>1 y>0 y>1 x>0,y>0 x>0,y>1 x>1,y>0 x>1,y>1") {
-				l = append(l, sketch.Node(peer+sign+arms))
-			}
-		}
-	}
-	return l
-}
-
 // Two roles at all pairs of small nodes, and both at one, with no letters and with some.
 func TestAllSmallStages(t *testing.T) {
 	mails := []string{"", "01:x", "01:y", "01:x,y 00:x", "10:x", "10:y,x", "01:x 10:x", "01:y,x 10:y 11:y"}
 	roles := rolesOf(2)
-	nodes := smallNodes("a", "b", "c")
+	nodes := sketch.SmallNodes("a", "b", "c")
 	seen := map[int]int{}
 	for _, x := range nodes {
 		for _, y := range nodes {
@@ -73,39 +59,6 @@ func checkSmall(t *testing.T, b api.Book, roles []string, s api.Stage) bool {
 
 func pick[T any](r *rand.Rand, l ...T) T { return l[r.Intn(len(l))] }
 
-// drawn is a valid book of n nodes, whose peers are these roles, and sometimes others.
-func drawn(r *rand.Rand, roles []string, n int) api.Book {
-	var b api.Book
-	for range n {
-		if r.Intn(8) == 0 {
-			b.Nodes = append(b.Nodes, api.Node{})
-			continue
-		}
-		x := api.Node{Kind: 1 + r.Intn(2), Peer: pick(r, roles...)}
-		if r.Intn(12) == 0 {
-			x.Peer = "nobody"
-		}
-		for _, label := range []string{"x", "x2", "y", "z"} {
-			if r.Intn(2) == 0 || label == "z" && len(x.Arms) == 0 {
-				sort := api.Sort{Kind: r.Intn(6)}
-				if sort.Kind == api.Chan {
-					sort.At = r.Intn(n)
-				}
-				x.Arms = append(x.Arms, api.Edge{Label: label, Sort: sort, Next: r.Intn(n)})
-			}
-		}
-		b.Nodes = append(b.Nodes, x)
-	}
-	return b
-}
-
-// drawnRoles are up to five roles, in any order.
-func drawnRoles(r *rand.Rand) []string {
-	all := []string{"a", "b", "c", "d", "aa", "b2"}
-	r.Shuffle(len(all), func(i, j int) { all[i], all[j] = all[j], all[i] })
-	return all[:1+r.Intn(5)]
-}
-
 // drawnStage is a valid stage with letters in all queues.
 func drawnStage(r *rand.Rand, b api.Book, n int) api.Stage {
 	s := idle(n)
@@ -123,8 +76,7 @@ func drawnStage(r *rand.Rand, b api.Book, n int) api.Stage {
 func TestRandomStages(t *testing.T) {
 	r := rand.New(rand.NewSource(13))
 	for range 1500 {
-		roles := drawnRoles(r)
-		b := drawn(r, roles, 1+r.Intn(12))
+		roles, b, _ := sketch.Draw(r.Intn).Session()
 		s := drawnStage(r, b, len(roles))
 		if !check(t, b, roles, s) || !checkBegin(t, b, roles, s.At) {
 			t.Fatalf("P13.1: %v of %v, %q is invalid", s, b, roles)
@@ -167,12 +119,7 @@ func TestRandomPlays(t *testing.T) {
 	r := rand.New(rand.NewSource(14))
 	played := 0
 	for range 600 {
-		roles := drawnRoles(r)
-		b := drawn(r, roles, 1+r.Intn(12))
-		var roots []int
-		for range roles {
-			roots = append(roots, r.Intn(len(b.Nodes)))
-		}
+		roles, b, roots := sketch.Draw(r.Intn).Session()
 		s, e := stage.Begin(b, roles, roots)
 		if e != api.OK {
 			t.Fatalf("P13.1: Begin: %d", e)
@@ -209,8 +156,7 @@ func TestRandomPlays(t *testing.T) {
 func TestTheOrderOfRolesAndNodesIsNoMatter(t *testing.T) {
 	r := rand.New(rand.NewSource(15))
 	for range 800 {
-		roles := drawnRoles(r)
-		b := drawn(r, roles, 1+r.Intn(12))
+		roles, b, _ := sketch.Draw(r.Intn).Session()
 		s := drawnStage(r, b, len(roles))
 		order, places := r.Perm(len(b.Nodes)), r.Perm(len(roles))
 		c, other, z := sketch.Reorder(b, order), make([]string, len(roles)), idle(len(roles))
