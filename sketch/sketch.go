@@ -1,4 +1,4 @@
-// Package sketch makes local types, protocols, books and stages for the tests of the layers that read them: small ones are written as text, and others are made from them.
+// Package sketch makes local types, protocols, books, stages and sessions for the tests of the layers that read them: small ones are written as text, and others are made from them or drawn.
 package sketch
 
 import (
